@@ -1,0 +1,1 @@
+"""Crosshitch: pieces coupled by their ends."""
