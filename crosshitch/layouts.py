@@ -1,14 +1,16 @@
 """Layouts: their ends, and their rows and rings."""
 
-from crosshitch.basics import all_ends, check_end, check_layout, check_pieces, coupling_of
-from crosshitch.basics import first_wrong_coupling, is_end, partner_table
+from crosshitch.basics import check_end, check_pieces, checked_partners, is_integer, opens_in, partners_or_wrong
 from crosshitch.errors import InvalidRings, InvalidRows
 
 
 def is_layout(pieces, value):
     """Return whether any value is a layout."""
     check_pieces(pieces)
-    return type(value) == list and first_wrong_coupling(pieces, value) is None
+    if type(value) != list:
+        return False
+    _, wrong = partners_or_wrong(pieces, value)
+    return wrong is None
 
 
 def count_layouts(pieces):
@@ -24,89 +26,79 @@ def count_layouts(pieces):
 def open_ends(pieces, layout):
     """Return the ascending list of the open ends."""
     check_pieces(pieces)
-    check_layout(pieces, layout)
-    partners = partner_table(layout)
-    return [end for end in all_ends(pieces) if end not in partners]
+    return opens_in(pieces, checked_partners(pieces, layout))
 
 
 def partner_of(pieces, layout, end):
     """Return the end with which an end is coupled, None for an open end."""
     check_pieces(pieces)
-    check_layout(pieces, layout)
+    partners = checked_partners(pieces, layout)
     check_end(pieces, end)
-    return partner_table(layout).get(end)
+    return partners[end] if partners[end] else None
 
 
 def partners_of(pieces, layout):
     """Return the partners of all ends, from the least end on, with 0 for each open end."""
     check_pieces(pieces)
-    check_layout(pieces, layout)
-    partners = partner_table(layout)
-    return [partners.get(end, 0) for end in all_ends(pieces)]
+    partners = checked_partners(pieces, layout)
+    return partners[pieces + 1:] + partners[1:pieces + 1]
 
 
-def _row_from(first, partners):
-    """Return the reading of a row that begins with a number, whose other end is open."""
-    row = [first]
-    while row[-1] in partners:
-        row.append(-partners[row[-1]])
-    return row
+def _readings(pieces, partners):
+    """Return the normal readings of all rows and of all rings, both in the sequence of their least pieces."""
+    rows, rings = [], []
+    seen = [False] * (pieces + 1)
+    for piece in range(1, pieces + 1):
+        if seen[piece]:
+            continue
+        # All lesser pieces are read already, so this one is the least of its row or ring.
+        reading = [piece]
+        end = partners[piece]
+        while end and end != -piece:
+            reading.append(-end)
+            seen[abs(end)] = True
+            end = partners[-end]
+        if end:
+            rings.append(reading)
+            continue
+        ahead = []
+        end = partners[-piece]
+        while end:
+            ahead.append(end)
+            seen[abs(end)] = True
+            end = partners[-end]
+        rows.append(ahead[::-1] + reading if ahead else reading)
+    return rows, rings
 
 
 def rows_of(pieces, layout):
     """Return the ascending list of the normal readings of all rows."""
     check_pieces(pieces)
-    check_layout(pieces, layout)
-    partners = partner_table(layout)
-    starts = [number for number in all_ends(pieces) if -number not in partners]
-    # Each row is read twice, from each of its open ends, and one of the two readings is normal.
-    # The first numbers ascend, so the readings do.
-    readings = [_row_from(number, partners) for number in starts]
-    return [reading for reading in readings if min(reading, key=abs) > 0]
-
-
-def _ring_from(first, partners):
-    """Return the reading of a ring that begins with a number."""
-    ring = [first]
-    number = -partners[first]
-    while number != first:
-        ring.append(number)
-        number = -partners[number]
-    return ring
+    rows, _ = _readings(pieces, checked_partners(pieces, layout))
+    return sorted(rows)
 
 
 def rings_of(pieces, layout):
     """Return the ascending list of the normal readings of all rings."""
-    rows = rows_of(pieces, layout)
-    partners = partner_table(layout)
-    seen = {abs(number) for row in rows for number in row}
-    rings = []
-    for piece in range(1, pieces + 1):
-        if piece not in seen:
-            ring = _ring_from(piece, partners)
-            for number in ring:
-                seen.add(abs(number))
-            rings.append(ring)
+    check_pieces(pieces)
+    # Each ring begins with its least piece, so they ascend already.
+    _, rings = _readings(pieces, checked_partners(pieces, layout))
     return rings
-
-
-def _is_reading(pieces, value):
-    """Return whether any value is a list of one or more numbers of pieces with signs."""
-    if type(value) != list or len(value) == 0:
-        return False
-    return all([is_end(pieces, number) for number in value])
 
 
 def _first_wrong_reading(pieces, readings, ahead):
     """Return the index of the first item that is no reading or has a piece again, also one ahead; None without one."""
-    taken = {abs(number) for reading in ahead for number in reading}
+    seen = {abs(number) for reading in ahead for number in reading}
     for index, reading in enumerate(readings):
-        if not _is_reading(pieces, reading):
+        if type(reading) != list or len(reading) == 0:
             return index
         for number in reading:
-            if abs(number) in taken:
+            if type(number) != int and not is_integer(number):
                 return index
-            taken.add(abs(number))
+            piece = abs(number)
+            if piece == 0 or piece > pieces or piece in seen:
+                return index
+            seen.add(piece)
     return None
 
 
@@ -128,7 +120,8 @@ def _check_rings(pieces, rows, rings):
 
 def _couplings_along(numbers):
     """Return the couplings of each number with the one behind it."""
-    return [coupling_of(number, -behind) for number, behind in zip(numbers, numbers[1:])]
+    pairs = zip(numbers, numbers[1:])
+    return [(number, -behind) if number < -behind else (-behind, number) for number, behind in pairs]
 
 
 def layout_of(pieces, rows, rings):
@@ -138,7 +131,8 @@ def layout_of(pieces, rows, rings):
     _check_rings(pieces, rows, rings)
     layout = []
     for row in rows:
-        layout.extend(_couplings_along(row))
+        if len(row) > 1:
+            layout.extend(_couplings_along(row))
     for ring in rings:
         layout.extend(_couplings_along(ring + ring[:1]))
     return sorted(layout)

@@ -1,130 +1,128 @@
 """Moves: what they are, what they make, and their kinds."""
 
-from crosshitch.basics import check_layout, check_pieces, coupling_of, is_coupling, partner_table
+from crosshitch.basics import check_pieces, checked_partners, coupling_of, is_coupling, opens_in
 from crosshitch.errors import InvalidMove
-from crosshitch.layouts import open_ends, rings_of, rows_of
 
-# The keys: how many rows and rings go away, and how many rows and rings come in their place.
-KINDS = {
-    (1, 0, 2, 0): "cut",
-    (2, 0, 1, 0): "join",
-    (0, 1, 1, 0): "open",
-    (1, 0, 0, 1): "close",
-    (1, 0, 1, 1): "let",
-    (1, 1, 1, 0): "take",
-    (0, 1, 0, 2): "part",
-    (0, 2, 0, 1): "merge",
-    (2, 0, 2, 0): "exchange",
-    (1, 0, 1, 0): "turn",
-    (0, 1, 0, 1): "turn",
-}
+# How many couplings are cut and how many are joined, for each of the four forms.
+FORMS = ((2, 2), (1, 1), (1, 0), (0, 1))
 
 
-def _is_list_of_couplings(pieces, value):
-    """Return whether any value is an ascending list of couplings."""
-    if type(value) != list:
-        return False
-    if not all([is_coupling(pieces, item) for item in value]):
-        return False
-    return all([ahead < behind for ahead, behind in zip(value, value[1:])])
+def _are_ascending_couplings(pieces, items):
+    """Return whether a list of up to two items is an ascending list of couplings."""
+    for item in items:
+        if not is_coupling(pieces, item):
+            return False
+    return len(items) < 2 or items[0] < items[1]
 
 
-def _has_parts_of_move(pieces, value):
-    """Return whether any value is a tuple of two ascending lists of couplings."""
+def _has_form(pieces, value):
+    """Return whether any value is a tuple of two ascending lists with as many couplings as a move may have."""
     if type(value) != tuple or len(value) != 2:
         return False
-    return all([_is_list_of_couplings(pieces, part) for part in value])
-
-
-def _ends_in(couplings):
-    """Return the sorted list of the ends of some couplings."""
-    return sorted([end for coupling in couplings for end in coupling])
+    cut, joined = value
+    if type(cut) != list or type(joined) != list or (len(cut), len(joined)) not in FORMS:
+        return False
+    return _are_ascending_couplings(pieces, cut) and _are_ascending_couplings(pieces, joined)
 
 
 def _joins_otherwise(cut, joined):
-    """Return whether couplings are of the same ends as those that are cut, and none of them stays."""
-    if _ends_in(cut) != _ends_in(joined):
-        return False
-    return not any([coupling in cut for coupling in joined])
+    """Return whether two couplings are of the same ends as those that are cut, and none of them stays."""
+    (low, high), (near, far) = cut
+    # The least end is the same one in both, so it tells which of the two ways of joining is to be compared.
+    return joined == [(low, near), coupling_of(high, far)] or joined == [(low, far), coupling_of(high, near)]
 
 
 def _joins_to_open(cut, joined, partners):
     """Return whether a coupling is of an end of the one that is cut, and of an open end."""
     low, high = joined
     if low in cut:
-        return high not in partners
-    return high in cut and low not in partners
+        return not partners[high]
+    return high in cut and not partners[low]
 
 
-def _is_move_of(pieces, layout, value):
-    """Return whether any value is a move of what is known to be a layout."""
-    if not _has_parts_of_move(pieces, value):
+def is_move_by_partners(pieces, partners, value):
+    """Return whether any value is a move of the layout with a table of partners."""
+    if not _has_form(pieces, value):
         return False
     cut, joined = value
-    if not all([coupling in layout for coupling in cut]):
-        return False
-    partners = partner_table(layout)
-    form = (len(cut), len(joined))
-    if form == (2, 2):
+    for low, high in cut:
+        if partners[low] != high:
+            return False
+    if len(joined) == 0:
+        return True
+    if len(joined) == 2:
         return _joins_otherwise(cut, joined)
-    if form == (1, 1):
+    if len(cut) == 1:
         return _joins_to_open(cut[0], joined[0], partners)
-    if form == (0, 1):
-        return all([end not in partners for end in joined[0]])
-    return form == (1, 0)
+    low, high = joined[0]
+    return not partners[low] and not partners[high]
 
 
 def is_move(pieces, layout, value):
     """Return whether any value is a move of the layout."""
     check_pieces(pieces)
-    check_layout(pieces, layout)
-    return _is_move_of(pieces, layout, value)
+    return is_move_by_partners(pieces, checked_partners(pieces, layout), value)
+
+
+def checked_move(pieces, layout, move):
+    """Return the table of partners of the layout; raise an error unless all three parameters are right."""
+    check_pieces(pieces)
+    partners = checked_partners(pieces, layout)
+    if not is_move_by_partners(pieces, partners, move):
+        raise InvalidMove("not a move of the layout")
+    return partners
 
 
 def moved(pieces, layout, move):
     """Return the layout that a move makes."""
-    check_pieces(pieces)
-    check_layout(pieces, layout)
-    if not _is_move_of(pieces, layout, move):
-        raise InvalidMove("not a move of the layout")
+    checked_move(pieces, layout, move)
     cut, joined = move
-    return sorted([coupling for coupling in layout if coupling not in cut] + joined)
+    after = layout + joined
+    for coupling in cut:
+        after.remove(coupling)
+    return sorted(after)
 
 
 def _joins(ends):
-    """Return the moves that only join two of some open ends."""
-    return [([], [(low, high)]) for low in ends for high in ends if low < high]
+    """Return the ascending list of the moves that only join two of some open ends."""
+    return [([], [(low, high)]) for at, low in enumerate(ends) for high in ends[at + 1:]]
 
 
-def _transfers(layout, ends):
-    """Return the moves that cut one coupling and join one of its ends to one of some open ends."""
-    return [([coupling], [coupling_of(end, other)]) for coupling in layout for end in coupling for other in ends]
+def _transfers(coupling, ends):
+    """Return the ascending list of the moves that cut a coupling and join one of its ends to one of some open ends."""
+    joined = sorted([coupling_of(end, other) for end in coupling for other in ends])
+    return [([coupling], [new]) for new in joined]
 
 
-def _swaps(layout):
-    """Return the moves that cut two couplings and join their ends otherwise."""
+def _swaps(coupling, others):
+    """Return the ascending list of the moves that cut a coupling and one of some greater ones, and join otherwise."""
     swaps = []
-    for first in layout:
-        for second in layout:
-            if first < second:
-                low, high = first
-                for near, far in (second, second[::-1]):
-                    joined = sorted([coupling_of(low, near), coupling_of(high, far)])
-                    swaps.append(([first, second], joined))
+    low, high = coupling
+    for other in others:
+        near, far = other
+        # The lesser ends of the couplings are low and near, and low is the least of all.
+        swaps.append(([coupling, other], [(low, near), coupling_of(high, far)]))
+        swaps.append(([coupling, other], [(low, far), coupling_of(high, near)]))
     return swaps
 
 
 def moves_of(pieces, layout):
     """Return the ascending list of all moves."""
-    ends = open_ends(pieces, layout)
-    cuts = [([coupling], []) for coupling in layout]
-    return sorted(cuts + _joins(ends) + _transfers(layout, ends) + _swaps(layout))
+    check_pieces(pieces)
+    partners = checked_partners(pieces, layout)
+    ends = opens_in(pieces, partners)
+    moves = _joins(ends)
+    for at, coupling in enumerate(layout):
+        moves.append(([coupling], []))
+        moves.extend(_transfers(coupling, ends))
+        moves.extend(_swaps(coupling, layout[at + 1:]))
+    return moves
 
 
 def count_moves(pieces, layout):
     """Return how many moves there are."""
     check_pieces(pieces)
-    check_layout(pieces, layout)
+    checked_partners(pieces, layout)
     coupled = len(layout)
     opened = 2 * (pieces - coupled)
     swaps = coupled * (coupled - 1)
@@ -133,21 +131,56 @@ def count_moves(pieces, layout):
     return coupled + joins + transfers + swaps
 
 
-def _how_many_only_in(readings, others):
-    """Return how many of some readings are not among the others."""
-    return len([reading for reading in readings if reading not in others])
+def _far_end(partners, end):
+    """Return the other outer end of the row that begins with an open end."""
+    end = -end
+    while partners[end]:
+        end = -partners[end]
+    return end
+
+
+def _kind_of_swap(partners, cut, joined):
+    """Return the kind of a move that cuts two couplings and joins their ends otherwise; both are cut already."""
+    (low, high), (near, far) = cut
+    across, back = _far_end(partners, low), _far_end(partners, high)
+    if across in (near, far) or back in (near, far):
+        # They lie in one row or ring; what stands between two of their ends comes off if these two are joined.
+        in_ring = across in (near, far) and back in (near, far)
+        start, end = (low, across) if across in (near, far) else (high, back)
+        if coupling_of(start, end) in joined:
+            return "part" if in_ring else "let"
+        return "turn"
+    rings = (1 if across == high else 0) + (1 if _far_end(partners, near) == far else 0)
+    return ("exchange", "take", "merge")[rings]
+
+
+def _kind_of_transfer(partners, cut, joined):
+    """Return the kind of a move that cuts a coupling and joins one of its ends to an open end; it is cut already."""
+    low, high = cut
+    left = high if low in joined else low
+    end = low + high - left
+    other = joined[0] + joined[1] - end
+    across = _far_end(partners, end)
+    if across == left:
+        return "take"
+    if across == other:
+        return "let"
+    return "turn" if _far_end(partners, left) == other else "exchange"
 
 
 def kind_of(pieces, layout, move):
     """Return the word for what a move does to the rows and rings."""
-    after = moved(pieces, layout, move)
-    rows, new_rows = rows_of(pieces, layout), rows_of(pieces, after)
-    rings, new_rings = rings_of(pieces, layout), rings_of(pieces, after)
-    # A reading changes if and only if its row or ring does, so those that stay are left out.
-    changes = (
-        _how_many_only_in(rows, new_rows),
-        _how_many_only_in(rings, new_rings),
-        _how_many_only_in(new_rows, rows),
-        _how_many_only_in(new_rings, rings),
-    )
-    return KINDS[changes]
+    partners = checked_move(pieces, layout, move)
+    cut, joined = move
+    for low, high in cut:
+        partners[low] = partners[high] = 0
+    # In what is left, each end that the move concerns begins a row: it depends on where this row ends what they become.
+    if len(cut) == 2:
+        return _kind_of_swap(partners, cut, joined)
+    if len(cut) == 0:
+        low, high = joined[0]
+        return "close" if _far_end(partners, low) == high else "join"
+    low, high = cut[0]
+    if len(joined) == 0:
+        return "open" if _far_end(partners, low) == high else "cut"
+    return _kind_of_transfer(partners, cut[0], joined[0])

@@ -72,7 +72,8 @@ class Form(unittest.TestCase):
                 self.assertNotIsInstance(node, (ast.Div, ast.AsyncFunctionDef, ast.Await), path)
                 if isinstance(node, ast.Constant):
                     self.assertNotIsInstance(node.value, (float, complex), path)
-                if isinstance(node, ast.Name) and hasattr(builtins, node.id):
+                # Where doctest has shown a value, `_` has become a builtin name.
+                if isinstance(node, ast.Name) and node.id != "_" and hasattr(builtins, node.id):
                     self.assertIn(node.id, BUILTINS, f"{path}: line {node.lineno}")
 
 
