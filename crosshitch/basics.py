@@ -41,11 +41,9 @@ def coupling_of(end, other):
     return (end, other) if end < other else (other, end)
 
 
-def no_partners(pieces):
-    """Return a new table of partners in which all ends are open."""
-    partners = [0] * (2 * pieces + 1)
-    partners[0] = 1
-    return partners
+def all_ends(pieces):
+    """Return the ascending list of all ends."""
+    return [*range(-pieces, 0), *range(1, pieces + 1)]
 
 
 def opens_in(pieces, partners):
@@ -55,7 +53,8 @@ def opens_in(pieces, partners):
 
 def partners_or_wrong(pieces, items):
     """Return the table of partners and None for a list that is a layout, else None and the index of its wrong item."""
-    partners = no_partners(pieces)
+    partners = [0] * (2 * pieces + 1)
+    partners[0] = 1
     ahead = -pieces - 1
     for index, item in enumerate(items):
         if type(item) != tuple or len(item) != 2:

@@ -98,7 +98,7 @@ def all_between(pieces, one, other):
     for part in sorted(parts, key=cost_of):
         if part[0] in ("ring", "odd"):
             found = _both(found, _choices_apart(part))
-    ones, others = [[part for part in parts if part[0] == word] for word in ("one", "other")]
+    ones, others = [[way for way in parts if way[0] == word] for word in ("one", "other")]
     return sorted([sorted(layout) for layout in _both(found, _choices_of_ways(ones, others))])
 
 

@@ -102,7 +102,7 @@ def around(one, other):
     last = {group: thing for thing, group in enumerate(groups)}
     # The groups that may go on, each of them within those that stand ahead of it here.
     begun = []
-    for thing in range(len(groups)):
+    for thing in range(len(one)):
         group = groups[thing]
         if group not in begun:
             begun.append(group)

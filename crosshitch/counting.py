@@ -37,6 +37,8 @@ class ListWeights:
     def __init__(self):
         self._alone = {}
         self._meeting = {}
+        # What is already known of several ways together (see weight_of_ways).
+        self.together = {}
 
     def alone(self, cost):
         """Return the number of shortest lists of a component that does not meet another one."""
@@ -81,6 +83,7 @@ class LayoutWeights:
     def __init__(self, bits):
         self._bits = bits
         self._partings = {}
+        self.together = {}
 
     def _parted(self, things):
         """Return N(things): the numbers of partings, by how many groups there are above one."""
@@ -160,7 +163,7 @@ def _how_many_subsets(costs):
     return many
 
 
-def weight_of_ways(weights, ones, others):
+def _weight_of_pairings(weights, ones, others):
     """Return the weight of all ways together, by the costs of those of `one` and of those of `other`."""
     meeting = weights.meeting
     # It takes as many sums as there are subsets of the second ones, and it does not matter which ones these are.
@@ -174,6 +177,16 @@ def weight_of_ways(weights, ones, others):
         done = sum(ones) + sum(others) - sum(apart)
         total += weight * _weight_apart(weights, apart, done)
     return total
+
+
+def weight_of_ways(weights, ones, others):
+    """Return the weight of all ways together, by the ascending lists of the costs of both sorts."""
+    if len(ones) == 0 or len(others) == 0:
+        return _weight_apart(weights, ones + others, 0)
+    key = (tuple(ones), tuple(others))
+    if key not in weights.together:
+        weights.together[key] = _weight_of_pairings(weights, ones, others)
+    return weights.together[key]
 
 
 def weight_of_all(weights, alone, ones, others):

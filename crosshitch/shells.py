@@ -2,7 +2,7 @@
 
 from math import comb, factorial, gcd
 
-from crosshitch.basics import check_number, check_pieces, checked_partners, no_partners, opens_in
+from crosshitch.basics import all_ends, check_number, check_pieces, checked_partners
 from crosshitch.components import distance
 from crosshitch.errors import InvalidNumber
 from crosshitch.layouts import count_layouts
@@ -69,7 +69,7 @@ def nth_at(pieces, layout, moves, index):
     if index >= strands.how_many():
         raise InvalidNumber("there are not so many layouts with this distance")
     found = []
-    unknown = opens_in(pieces, no_partners(pieces))
+    unknown = all_ends(pieces)
     while unknown:
         end = unknown[0]
         for partner in sorted([0, *unknown[1:]]):
@@ -91,7 +91,7 @@ def index_at(pieces, layout, other):
     found = checked_partners(pieces, other)
     strands = _strands(pieces, partners, distance(pieces, partners, found))
     index = 0
-    unknown = opens_in(pieces, no_partners(pieces))
+    unknown = all_ends(pieces)
     while unknown:
         end = unknown[0]
         for partner in sorted([0, *unknown[1:]]):

@@ -27,9 +27,15 @@ def _places(part):
     return [(line[at], line[at + 1]) for at in range(0, len(line), 2)]
 
 
-def _couplings(pairs):
-    """Return the ascending list of the couplings of some pairs of ends; a pair with None is none."""
-    return sorted([coupling_of(low, high) for low, high in pairs if low is not None and high is not None])
+def _couplings(pair, other):
+    """Return the ascending list of the couplings of two pairs of ends; a pair with None is none."""
+    couplings = []
+    for low, high in (pair, other):
+        if low is not None and high is not None:
+            couplings.append((low, high) if low < high else (high, low))
+    if len(couplings) == 2 and couplings[1] < couplings[0]:
+        couplings.reverse()
+    return couplings
 
 
 def _kinds_with_cost(*kinds):
@@ -45,7 +51,7 @@ def _steps_with_ring(part):
     for at, (start, end) in enumerate(places):
         for passed, (near, far) in enumerate(places[at + 1:]):
             # The ends from the one place to the other come off, with one coupling for each place that is passed.
-            cut, joined = _couplings([(start, end), (near, far)]), _couplings([(start, far), (end, near)])
+            cut, joined = _couplings((start, end), (near, far)), _couplings((start, far), (end, near))
             new = _kinds_with_cost(("ring", passed), (word, cost - passed - 1))
             steps.append(((cut, joined), ((word, cost),), new))
     return steps
@@ -69,21 +75,23 @@ def _steps_with_meeting(part, met):
     steps = []
     for at, (start, end) in enumerate(_places(part)):
         for passed, (near, far) in enumerate(met_places):
-            cut = [(start, end), (near, far)]
-            for left, joined in ((passed, [(start, near), (end, far)]), (more - passed, [(start, far), (end, near)])):
-                new = _kinds_with_cost(("odd", at + left), ("odd", cost - at - 1 + more - left))
-                steps.append(((_couplings(cut), _couplings(joined)), gone, new))
+            # What lies ahead of the one place goes on with one of the two sides of the other place.
+            for side, joined in ((passed, _couplings((start, near), (end, far))),
+                                 (more - passed, _couplings((start, far), (end, near)))):
+                new = _kinds_with_cost(("odd", at + side), ("odd", cost - at - 1 + more - side))
+                steps.append(((_couplings((start, end), (near, far)), joined), gone, new))
     return steps
 
 
 def good_steps(parts):
     """Return all steps from a layout with these components towards the other one."""
     steps = []
+    others = [part for part in parts if part[0] == "other"]
     for part in parts:
-        steps.extend(_steps_with_ring(part))
+        if cost_of(part) > 0:
+            steps.extend(_steps_with_ring(part))
         if part[0] == "one":
             steps.extend(_steps_with_cut(part))
-            for met in parts:
-                if met[0] == "other":
-                    steps.extend(_steps_with_meeting(part, met))
+            for met in others:
+                steps.extend(_steps_with_meeting(part, met))
     return steps

@@ -46,6 +46,45 @@ POINT_17 = """
 [False, False]
 """
 
+POINT_18 = """
+>>> from crosshitch.overlay import components_of, fewest_moves, is_shortest, leads, shortest
+>>> components_of(3, line, bent)
+[('odd', [-1]), ('odd', [3]), ('ring', [-3, 2, 1, -2])]
+>>> [fewest_moves(3, line, bent), shortest(3, line, bent), components_of(2, pair, back)]
+[1, [([(-3, 2), (-2, 1)], [(-3, -2), (1, 2)])], [('one', [-2, 1]), ('other', [-1, 2])]]
+>>> lists = [[([], [(-1, 2)]), ([(-2, 1)], [])], [([(-2, 1)], []), ([], [(-1, 1)]), ([(-1, 1)], [(-1, 2)])]]
+>>> [[leads(2, pair, back, value) for value in lists], [is_shortest(2, pair, back, value) for value in lists]]
+[[True, True], [True, False]]
+"""
+
+POINT_19 = """
+>>> from crosshitch.lists import count_shortest, count_through, good_moves, nth_shortest, shortest_index
+>>> [count_shortest(2, pair, back), count_shortest(3, ring, [(-3, 1), (-2, 3), (-1, 2)]), count_through(2, pair, back, [])]
+[6, 3, 1]
+>>> good_moves(2, pair, back)[:3]
+[([], [(-1, 2)]), ([(-2, 1)], []), ([(-2, 1)], [(-2, -1)])]
+>>> [nth_shortest(2, pair, back, 2), shortest_index(2, pair, back, [([(-2, 1)], []), ([], [(-1, 2)])])]
+[[([(-2, 1)], [(-2, -1)]), ([(-2, -1)], [(-1, 2)])], 1]
+"""
+
+POINT_20 = """
+>>> from crosshitch.between import all_between, count_between, counts_between, first_behind, is_between, last_ahead
+>>> [counts_between(2, pair, back), counts_between(3, ring, [(-3, 1), (-2, 3), (-1, 2)]), count_between(3, line, bent)]
+[[1, 6, 1], [1, 3, 1], 2]
+>>> [is_between(2, pair, back, []), is_between(2, pair, back, [(-1, 1)]), all_between(1, [], [(-1, 1)])]
+[True, True, [[], [(-1, 1)]]]
+>>> [first_behind(2, pair, [], pair, []), last_ahead(2, pair, [], pair, [])]
+[[], [(-2, 1)]]
+"""
+
+POINT_21 = """
+>>> from crosshitch.shells import counts_by_moves, index_at, mean_moves, nth_at
+>>> [counts_by_moves(1, []), counts_by_moves(2, []), counts_by_moves(2, [(-2, 1), (-1, 2)]), mean_moves(2, [])]
+[[1, 1], [1, 6, 3], [1, 4, 5], (6, 5)]
+>>> [nth_at(2, [], 1, 0), index_at(2, [], back), nth_at(2, pair, 0, 0)]
+[[(-2, -1)], 3, [(-2, 1)]]
+"""
+
 
 class Examples(unittest.TestCase):
     def check(self, text):
@@ -64,6 +103,18 @@ class Examples(unittest.TestCase):
 
     def test_point_17(self):
         self.check(POINT_17)
+
+    def test_point_18(self):
+        self.check(POINT_18)
+
+    def test_point_19(self):
+        self.check(POINT_19)
+
+    def test_point_20(self):
+        self.check(POINT_20)
+
+    def test_point_21(self):
+        self.check(POINT_21)
 
     def test_readme(self):
         readme = pathlib.Path(__file__).parent.parent / "README.md"

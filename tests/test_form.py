@@ -3,6 +3,7 @@
 import ast
 import builtins
 import pathlib
+import re
 import unittest
 
 import crosshitch
@@ -25,6 +26,17 @@ BUILTINS = {
     "Exception", "ValueError", "TypeError", "KeyError", "IndexError", "LookupError", "ZeroDivisionError",
     "ArithmeticError", "OverflowError", "RuntimeError", "NotImplementedError", "AttributeError", "StopIteration",
     "NotImplemented", "print", "object", "float",
+}
+INTERFACE = {
+    "errors": "HitchError InvalidLayout InvalidRows InvalidRings InvalidOpens InvalidText TooMany Farther InvalidPieces "
+              "InvalidEnd InvalidMove InvalidMoves InvalidSight InvalidNumber InvalidCommand NotBetween MixedWays "
+              "NotFitting Clash NothingToUndo",
+    "layouts": "is_layout count_layouts open_ends partner_of partners_of rows_of rings_of layout_of",
+    "moves": "is_move moved moves_of count_moves kind_of",
+    "overlay": "components_of fewest_moves shortest leads is_shortest",
+    "lists": "good_moves count_shortest count_through nth_shortest shortest_index",
+    "between": "is_between count_between counts_between all_between first_behind last_ahead",
+    "shells": "counts_by_moves mean_moves nth_at index_at",
 }
 
 
@@ -75,6 +87,38 @@ class Form(unittest.TestCase):
                 # Where doctest has shown a value, `_` has become a builtin name.
                 if isinstance(node, ast.Name) and node.id != "_" and hasattr(builtins, node.id):
                     self.assertIn(node.id, BUILTINS, f"{path}: line {node.lineno}")
+
+    def test_interface(self):
+        """Each function and class of the interface is defined in the file under which the document lists it."""
+        for name, names in INTERFACE.items():
+            tree = ast.parse((FOLDER / f"{name}.py").read_text(encoding="ascii"))
+            defined = [node.name for node in tree.body if isinstance(node, (ast.FunctionDef, ast.ClassDef))]
+            self.assertEqual([told for told in names.split() if told not in defined], [], name)
+
+    def test_no_name_of_an_import_or_a_builtin_is_assigned(self):
+        for path, tree in self.trees():
+            imported = {alias.name for node in tree.body if isinstance(node, ast.ImportFrom) for alias in node.names}
+            for node in ast.walk(tree):
+                name = None
+                if isinstance(node, ast.Name) and not isinstance(node.ctx, ast.Load):
+                    name = node.id
+                elif isinstance(node, ast.arg):
+                    name = node.arg
+                if name not in (None, "_"):
+                    self.assertNotIn(name, imported, f"{path}: line {node.lineno}")
+                    self.assertFalse(hasattr(builtins, name), f"{path}: line {node.lineno}: {name}")
+
+    def test_each_import_and_each_function_is_used(self):
+        texts = [path.read_text(encoding="ascii") for path in FILES]
+        listed = " ".join(INTERFACE.values()).split()
+        for path, tree in self.trees():
+            used = {node.id for node in ast.walk(tree) if isinstance(node, ast.Name)}
+            for node in tree.body:
+                if isinstance(node, ast.ImportFrom):
+                    self.assertEqual([alias.name for alias in node.names if alias.name not in used], [], path)
+                if isinstance(node, ast.FunctionDef) and node.name not in listed:
+                    many = sum(len(re.findall(rf"\b{node.name}\b", text)) for text in texts)
+                    self.assertGreater(many, 1, f"{path}: {node.name}")
 
 
 if __name__ == "__main__":
