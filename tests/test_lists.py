@@ -134,10 +134,8 @@ class CountShortest(unittest.TestCase):
     def test_every_two_ways_of_sixty_pieces(self):
         for k in range(1, 60):
             for l in range(1, 61 - k):
-                # The least and the greatest costs, and every fifth sum of both.
-                if (k + l) % 5 == 0 or k < 4 or l < 4 or k + l > 57:
-                    one, other = laid(60, [("one", k), ("other", l)])
-                    self.assertEqual(count_shortest(60, one, other), both(k, l), (k, l))
+                one, other = laid(60, [("one", k), ("other", l)])
+                self.assertEqual(count_shortest(60, one, other), both(k, l), (k, l))
 
     def test_one_component(self):
         for cost in range(1, 60):
