@@ -41,9 +41,9 @@ def coupling_of(end, other):
     return (end, other) if end < other else (other, end)
 
 
-def all_ends(pieces):
-    """Return the ascending list of all ends."""
-    return [*range(-pieces, 0), *range(1, pieces + 1)]
+def layout_in(pieces, partners):
+    """Return the layout with a table of partners."""
+    return [(end, partners[end]) for end in range(-pieces, pieces + 1) if end and partners[end] and end < partners[end]]
 
 
 def opens_in(pieces, partners):
@@ -51,40 +51,46 @@ def opens_in(pieces, partners):
     return [end for end in range(-pieces, pieces + 1) if not partners[end]]
 
 
-def partners_or_wrong(pieces, items):
-    """Return the table of partners and None for a list that is a layout, else None and the index of its wrong item."""
-    partners = [0] * (2 * pieces + 1)
-    partners[0] = 1
-    ahead = -pieces - 1
-    for index, item in enumerate(items):
-        if type(item) != tuple or len(item) != 2:
-            return None, index
-        low, high = item
-        # The plain question comes first: asking `are_integers` for each item would take longer than all the rest.
-        if (type(low) != int or type(high) != int) and not are_integers(low, high):
-            return None, index
-        # No end stands twice, so the couplings ascend if their lesser ends do.
-        if not ahead < low < high <= pieces or partners[low] or partners[high]:
-            return None, index
-        partners[low] = high
-        partners[high] = low
-        ahead = low
-    return partners, None
+def count_pairings(ends):
+    """Return in how many ways some of so many ends can be coupled in twos, so that the others are open."""
+    fewer, count = 1, 1
+    # A further end is open, or it is coupled with one of those that were there ahead of it.
+    for ahead in range(1, ends):
+        fewer, count = count, count + ahead * fewer
+    return count
+
+
+def couplings_in(partners):
+    """Return how many couplings there are in a table of partners."""
+    # The index 0 is the only place too many.
+    return (len(partners) - partners.count(0)) // 2
 
 
 def check_pieces(pieces):
     """Raise InvalidPieces unless the value is a number of pieces."""
-    if not is_integer(pieces) or pieces < 1 or pieces > MOST_PIECES:
+    if type(pieces) is not int and not is_integer(pieces) or pieces < 1 or pieces > MOST_PIECES:
         raise InvalidPieces(f"the number of pieces is an integer from 1 to {MOST_PIECES}")
 
 
 def checked_partners(pieces, layout):
     """Return the table of partners; raise InvalidLayout unless the value is a layout."""
-    if type(layout) != list:
+    if type(layout) is not list:
         raise InvalidLayout(None)
-    partners, wrong = partners_or_wrong(pieces, layout)
-    if wrong is not None:
-        raise InvalidLayout(wrong)
+    partners = [0] * (2 * pieces + 1)
+    partners[0] = 1
+    ahead = -pieces - 1
+    for item in layout:
+        if type(item) is tuple and len(item) == 2:
+            low, high = item
+            # The plain question comes first: asking `are_integers` for each item would take longer than all the rest.
+            if type(low) is int and type(high) is int or are_integers(low, high):
+                # No end stands twice, so the couplings ascend if their lesser ends do.
+                if ahead < low < high <= pieces and not partners[low] and not partners[high]:
+                    partners[low] = high
+                    partners[high] = ahead = low
+                    continue
+        # All items ahead of it are couplings.
+        raise InvalidLayout(couplings_in(partners))
     return partners
 
 
@@ -96,5 +102,5 @@ def check_end(pieces, end):
 
 def check_number(number):
     """Raise InvalidNumber unless the value is an integer from 0 on."""
-    if not is_integer(number) or number < 0:
+    if type(number) is not int and not is_integer(number) or number < 0:
         raise InvalidNumber("a number is an integer from 0 on")

@@ -1,18 +1,12 @@
 """Layouts between two layouts: counted and listed, the first one behind two of them and the last one ahead of both."""
 
 from crosshitch.basics import check_pieces, checked_partners
-from crosshitch.circles import all_partings, around, couplings_of, in_common, parting_of, things_of, turned
-from crosshitch.components import components, cost_of, costs_with, distance
-from crosshitch.counting import LayoutWeights, weight_of_all
+from crosshitch.circles import all_partings, circle_of, couplings_of, regrouped
+from crosshitch.components import checked_costs, components, cost_of, distance
+from crosshitch.counting import LayoutWeights, layouts_apart, weight_of_all
 from crosshitch.errors import MixedWays, NotBetween, TooMany
 
 MOST_LAYOUTS = 500
-
-
-def _lies_between(pieces, one, other, third):
-    """Return whether a layout is between two others, by their tables of partners."""
-    ahead, behind = distance(pieces, one, third), distance(pieces, third, other)
-    return ahead + behind == distance(pieces, one, other)
 
 
 def is_between(pieces, one, other, third):
@@ -20,50 +14,59 @@ def is_between(pieces, one, other, third):
     check_pieces(pieces)
     partners = checked_partners(pieces, one)
     goal = checked_partners(pieces, other)
-    return _lies_between(pieces, partners, goal, checked_partners(pieces, third))
+    checked_partners(pieces, third)
+    ahead, behind = distance(len(one), partners, third), distance(len(other), goal, third)
+    return ahead + behind == distance(len(one), partners, other)
 
 
-def _count(parts, bits):
-    """Return the number of layouts between, or their numbers by moves as digits of so many bits (see counting)."""
-    alone = costs_with(parts, "ring") + costs_with(parts, "odd")
-    return weight_of_all(LayoutWeights(bits), alone, costs_with(parts, "one"), costs_with(parts, "other"))
+def _count_layouts(alone, ones, others):
+    """Return how many layouts are between by the costs of ways of `one`, of ways of `other`, and of all others."""
+    if ones and others:
+        return weight_of_all(LayoutWeights(0), alone, ones, others)
+    return layouts_apart(alone + ones + others)
 
 
 def count_between(pieces, one, other):
     """Return how many layouts are between two others."""
     check_pieces(pieces)
-    partners = checked_partners(pieces, one)
-    return _count(components(pieces, partners, checked_partners(pieces, other)), 0)
+    alone, ones, others = checked_costs(pieces, checked_partners(pieces, one), other)
+    return _count_layouts(alone, ones, others)
 
 
 def counts_between(pieces, one, other):
     """Return how many layouts are between, for each number of moves from `one`, from 0 to the fewest moves."""
     check_pieces(pieces)
-    partners = checked_partners(pieces, one)
-    parts = components(pieces, partners, checked_partners(pieces, other))
-    bits = _count(parts, 0).bit_length()
-    digits = _count(parts, bits)
-    fewest = sum([cost_of(part) for part in parts])
+    alone, ones, others = checked_costs(pieces, checked_partners(pieces, one), other)
+    fewest = sum(alone) + sum(ones) + sum(others)
+    # A component of the cost d has less than 4 ** d layouts, and two ways that meet less than twice as many together.
+    some, more = len(ones), len(others)
+    pairings = (1 + max(some, more).bit_length()) * min(some, more)
+    bits = 2 * fewest + pairings + 1
+    digits = weight_of_all(LayoutWeights(bits), alone, ones, others)
     return [digits >> bits * moves & (1 << bits) - 1 for moves in range(fewest + 1)]
 
 
 def _choices_apart(part):
     """Return what layouts between can couple in a component that meets no other one: a list of lists of couplings."""
-    things = things_of(part)
-    return [couplings_of(things, parting) for parting in all_partings(len(things))]
+    circle = circle_of(part)
+    return [couplings_of(circle, parting) for parting in all_partings(len(circle[0]))]
 
 
 def _choices_met(part, met):
     """Return what layouts between can couple where a way of `one` and one of `other` meet."""
-    things, more = things_of(part), things_of(met)[:-1]
-    last = len(things) - 1
+    backs, fronts = circle_of(part)
+    # Without the gap, which is the last thing.
+    more_backs, more_fronts = [ends[:-1] for ends in circle_of(met)]
+    last = len(backs) - 1
     # The things of both ways make one circle, in each of two ways. They meet unless each group is of one way alone, or
     # the outer ends of the way of `one` are in one group: it is not cut then, and the other way changes by itself.
     partings = [
-        parting for parting in all_partings(len(things) + len(more))
+        parting for parting in all_partings(len(backs) + len(more_backs))
         if parting[last] > 0 and min(parting[last + 1:]) <= last
     ]
-    circles = [things + more, things + turned(more)]
+    circles = [
+        (backs + more_backs, fronts + more_fronts), (backs + more_fronts[::-1], fronts + more_backs[::-1]),
+    ]
     return [couplings_of(circle, parting) for circle in circles for parting in partings]
 
 
@@ -91,42 +94,63 @@ def all_between(pieces, one, other):
     check_pieces(pieces)
     partners = checked_partners(pieces, one)
     parts = components(pieces, partners, checked_partners(pieces, other))
-    if _count(parts, 0) > MOST_LAYOUTS:
+    alone, ones, others = checked_costs(pieces, partners, other)
+    if _count_layouts(alone, ones, others) > MOST_LAYOUTS:
         raise TooMany(MOST_LAYOUTS)
-    found = [[]]
-    # Those with one choice come first, while there is but one list.
-    for part in sorted(parts, key=cost_of):
-        if part[0] in ("ring", "odd"):
-            found = _both(found, _choices_apart(part))
-    ones, others = [[way for way in parts if way[0] == word] for word in ("one", "other")]
-    return sorted([sorted(layout) for layout in _both(found, _choices_of_ways(ones, others))])
-
-
-def _where_both_meet(pieces, one, other, third, fourth, meet):
-    """Return the layout whose groups are those of two layouts between two others, met by a function of two partings."""
-    check_pieces(pieces)
-    partners = checked_partners(pieces, one)
-    goal = checked_partners(pieces, other)
-    ends = [checked_partners(pieces, third), checked_partners(pieces, fourth)]
-    if not all([_lies_between(pieces, partners, goal, table) for table in ends]):
-        raise NotBetween("a layout is not between the two others")
-    parts = components(pieces, partners, goal)
-    words = [word for word, _ in parts]
-    if "one" in words and "other" in words:
-        raise MixedWays("there are ways of both layouts")
-    layout = []
+    # What both layouts couple in the same way stays.
+    found = [[(ends[0], ends[1]) for word, ends in parts if word == "ring" and len(ends) == 2]]
     for part in parts:
-        things = things_of(part)
-        partings = [parting_of(part, things, table) for table in ends]
-        layout.extend(couplings_of(things, meet(*partings)))
+        if part[0] in ("ring", "odd") and cost_of(part) > 0:
+            found = _both(found, _choices_apart(part))
+    here, there = [[way for way in parts if way[0] == word] for word in ("one", "other")]
+    return sorted([sorted(layout) for layout in _both(found, _choices_of_ways(here, there))])
+
+
+def _checked_tables(pieces, one, other, third, fourth):
+    """Return the tables of partners of two layouts, and of two that are between them; raise the errors for them."""
+    check_pieces(pieces)
+    tables = [checked_partners(pieces, layout) for layout in (one, other, third, fourth)]
+    alone, ones, others = checked_costs(pieces, list(tables[0]), other)
+    fewest = sum(alone) + sum(ones) + sum(others)
+    for layout in (third, fourth):
+        if distance(len(one), tables[0], layout) + distance(len(other), tables[1], layout) > fewest:
+            raise NotBetween("a layout is not between the two others")
+    if ones and others:
+        raise MixedWays("there are ways of both layouts")
+    return tables
+
+
+def _labels(pieces, partners, goal):
+    """Return a list that tells in which component of two tables of partners each end lies.
+
+    All ways of the second layout have the label 0, and so has the index 0: it stands for the gap between outer ends.
+    """
+    labels = [0] * len(partners)
+    for label, (word, ends) in enumerate(components(pieces, partners, goal), start=1):
+        if word != "other":
+            for end in ends:
+                labels[end] = label
+    return labels
+
+
+def _in_common(pieces, goal, partners, more):
+    """Return the layout whose groups are what the groups of two layouts have in common, by tables of partners."""
+    labels = _labels(pieces, more, goal)
+    layout = []
+    # Each group of the first one is a component of it and the goal, and leads from thing to thing in their sequence.
+    for part in components(pieces, partners, goal):
+        layout.extend(regrouped(part, labels))
     return sorted(layout)
 
 
 def first_behind(pieces, one, other, third, fourth):
     """Return the first layout that is behind two layouts between."""
-    return _where_both_meet(pieces, one, other, third, fourth, in_common)
+    _, goal, partners, more = _checked_tables(pieces, one, other, third, fourth)
+    return _in_common(pieces, goal, partners, more)
 
 
 def last_ahead(pieces, one, other, third, fourth):
     """Return the last layout that is ahead of two layouts between."""
-    return _where_both_meet(pieces, one, other, third, fourth, around)
+    # On the way back from `other` to `one` it is the first one behind both.
+    goal, _, partners, more = _checked_tables(pieces, one, other, third, fourth)
+    return _in_common(pieces, goal, partners, more)

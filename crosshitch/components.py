@@ -1,59 +1,59 @@
 """Components of two layouts, told by the tables of partners of both (see basics)."""
 
+from crosshitch.basics import are_integers
+from crosshitch.errors import InvalidLayout
 
-def _way_from(end, table, behind):
-    """Return the ends of a way from an outer end on; couplings of the first table and of the one behind take turns."""
+
+def _way(end, one, other, seen):
+    """Return the way with an outer end, the lesser one if there are two; mark the ends behind it as seen."""
+    # From a coupling of the first table one of the second leads on, and so by turns.
+    first, second, word = (one, other, "one") if one[end] else (other, one, "other")
     ends = [end]
-    end = table[end]
-    while end:
+    while first[end]:
+        end = first[end]
+        seen[end] = True
         ends.append(end)
-        table, behind = behind, table
-        end = table[end]
-    return ends
-
-
-def _ring_from(first, one, other):
-    """Return the ends of a ring component from one of its ends on, along the coupling of `one`."""
-    ends = [first, one[first]]
-    end = other[ends[-1]]
-    while end != first:
+        if not second[end]:
+            return (word, ends)
+        end = second[end]
+        seen[end] = True
         ends.append(end)
-        ends.append(one[end])
-        end = other[ends[-1]]
-    return ends
+    return ("odd", ends[::-1] if word == "one" else ends)
 
 
-def _way(end, one, other):
-    """Return the word and the ends of the way with an outer end, which is the lesser one if there are two."""
-    if one[end]:
-        ends = _way_from(end, one, other)
-        word = "one"
-    else:
-        ends = _way_from(end, other, one)
-        word = "other"
-    if len(ends) & 1:
-        return ("odd", ends[::-1] if one[end] else ends)
-    return (word, ends)
+def _ring(first, one, other, seen):
+    """Return the ring component from one of its ends on, along the coupling of `one`; mark its ends as seen."""
+    ends = []
+    end = first
+    while not seen[end]:
+        here = one[end]
+        ends.append(end)
+        ends.append(here)
+        seen[end] = seen[here] = True
+        end = other[here]
+    return ("ring", ends)
 
 
 def components(pieces, one, other):
-    """Return the components as tuples (word, ends), the ways first; the ends of each as `components_of` gives them."""
-    found = []
+    """Return the components as tuples (word, ends), each with its ends as `components_of` gives them."""
+    found, coupled = [], []
     seen = [False] * (2 * pieces + 1)
     # 0 is no end.
     seen[0] = True
     for end in range(-pieces, pieces + 1):
-        if not (one[end] and other[end]) and not seen[end]:
-            component = _way(end, one, other)
-            found.append(component)
-            for inner in component[1]:
-                seen[inner] = True
-    for end in range(-pieces, pieces + 1):
         if not seen[end]:
-            ends = _ring_from(end, one, other)
-            found.append(("ring", ends))
-            for inner in ends:
-                seen[inner] = True
+            here, there = one[end], other[end]
+            if here == there:
+                found.append(("ring", [end, here]) if here else ("odd", [end]))
+                seen[here] = True
+            elif here and there:
+                coupled.append(end)
+            else:
+                found.append(_way(end, one, other, seen))
+    # What is left when all ways are known are ring components.
+    for end in coupled:
+        if not seen[end]:
+            found.append(_ring(end, one, other, seen))
     return found
 
 
@@ -63,14 +63,79 @@ def cost_of(component):
     return len(ends) // 2 - 1 if word == "ring" else len(ends) // 2
 
 
-def costs_with(parts, word):
-    """Return the ascending list of the costs of those components that have a word."""
-    return sorted([cost_of(part) for part in parts if part[0] == word])
+def distance(number, partners, couplings):
+    """Return the number of the fewest moves from one layout to another, told by its couplings.
+
+    Of the first one the number of its couplings is passed, and its table of partners. The fewest moves are this number,
+    less 1 for each ring component, and 1 more for each way of the other layout.
+    """
+    # For each outer end of what the couplings lead along, the other outer end, or 0 if that one is open in the first
+    # layout. What is written at the index 0, which is no end, is never read.
+    across = list(partners)
+    for low, high in couplings:
+        here, there = across[low], across[high]
+        if here == high:
+            number -= 1
+        elif here == there:
+            number += 1
+        else:
+            across[here] = there
+            across[there] = here
+    return number
 
 
-def distance(pieces, one, other):
-    """Return the number of the fewest moves."""
-    return sum([cost_of(part) for part in components(pieces, one, other)])
+def _costs_left(across, passed):
+    """Return the costs of odd ways, and those of ways of the first layout, from what `checked_costs` leaves."""
+    odds, ones = [], []
+    for there, cost in zip(across, passed):
+        if there:
+            ones.append(cost + 1)
+        elif cost and there == 0:
+            odds.append(cost)
+    # Each way of the first layout is told by both of its outer ends.
+    return odds, sorted(ones)[::2] if ones else ones
+
+
+def checked_costs(pieces, across, layout):
+    """Return the costs above 0 of all components, as three lists; raise InvalidLayout unless the value is a layout.
+
+    The first list is of the ring components and the odd ways, the second one of the ways of the layout whose table of
+    partners is passed, and the third one of the ways of the layout that is checked. The table is changed.
+    """
+    if type(layout) is not list:
+        raise InvalidLayout(None)
+    rings, others = [], []
+    # What the couplings lead along is told by its outer ends: `across` keeps the other outer end, or 0 if that one is
+    # open in the first layout, and `passed` the number of couplings. None tells that an end is coupled already.
+    passed = [0] * len(across)
+    across[0] = None
+    ahead = -pieces - 1
+    # They are checked here as `checked_partners` does it: to call that one, too, would take longer.
+    for item in layout:
+        if type(item) is tuple and len(item) == 2:
+            low, high = item
+            if type(low) is int and type(high) is int or are_integers(low, high):
+                if ahead < low < high <= pieces and across[low] is not None and across[high] is not None:
+                    here, there = across[low], across[high]
+                    across[low] = across[high] = None
+                    ahead = low
+                    cost = passed[low] + passed[high] + 1
+                    if here == there:
+                        others.append(cost)
+                    elif here != high:
+                        if here:
+                            across[here] = there
+                            passed[here] = cost
+                        if there:
+                            across[there] = here
+                            passed[there] = cost
+                    elif cost > 1:
+                        # Both ends of the ring component told all of its couplings.
+                        rings.append(cost // 2)
+                    continue
+        raise InvalidLayout(across.count(None) // 2)
+    odds, ones = _costs_left(across, passed)
+    return rings + odds, ones, others
 
 
 def make_move(partners, move):

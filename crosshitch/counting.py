@@ -5,7 +5,36 @@ weights for each way to pair some ways of `one` with some of `other`: those in a
 is counted by the weights are shortest lists (ListWeights) or layouts between (LayoutWeights).
 """
 
-from math import comb
+from math import comb, factorial
+
+# ListWeights.meeting for the costs of ways that four pieces can have.
+MEETINGS_OF_FEW = {(1, 1): 4, (1, 2): 24, (2, 1): 24, (1, 3): 196, (2, 2): 208, (3, 1): 196}
+# How many partings of up to five things there are, from one group on.
+NUMBERS_OF_PARTINGS = ((), (1,), (1, 1), (1, 3, 1), (1, 6, 6, 1), (1, 10, 20, 10, 1))
+
+
+def _lists_alone(cost):
+    """Return the number of shortest lists of a component alone."""
+    # The exponent is cost - 1; for the cost 0 it becomes 64, and the power is 1 all the same.
+    return (cost + 1) ** (int(cost - 1) % 65)
+
+
+def lists_apart(costs):
+    """Return the number of shortest lists of components that do not meet."""
+    count = factorial(sum(costs))
+    for cost in costs:
+        # Those of less than two moves change nothing more.
+        if cost > 1:
+            count = count * _lists_alone(cost) // factorial(cost)
+    return count
+
+
+def layouts_apart(costs):
+    """Return the number of layouts between by components that do not meet."""
+    count = 1
+    for cost in costs:
+        count = count * comb(2 * cost + 2, cost + 1) // (cost + 2)
+    return count
 
 
 def _powers(base, number):
@@ -35,19 +64,18 @@ class ListWeights:
     """The numbers of shortest lists."""
 
     def __init__(self):
-        self._alone = {}
         self._meeting = {}
-        # What is already known of several ways together (see weight_of_ways).
+        # What is already known of several ways together (see weight_of_all).
         self.together = {}
 
     def alone(self, cost):
         """Return the number of shortest lists of a component that does not meet another one."""
-        if cost not in self._alone:
-            self._alone[cost] = _powers(cost + 1, cost)[-1]
-        return self._alone[cost]
+        return _lists_alone(cost)
 
     def meeting(self, one, other):
         """Return the number of shortest lists in which a way of `one` and a way of `other` meet, by their costs."""
+        if (one, other) in MEETINGS_OF_FEW:
+            return MEETINGS_OF_FEW[one, other]
         if (one, other) not in self._meeting:
             self._meeting[one, other] = 2 * (self.alone(one + other) - self._closed_and_cut(one, other))
         return self._meeting[one, other]
@@ -72,6 +100,17 @@ class ListWeights:
         """Return the number of ways to shuffle so many moves and so many others."""
         return comb(some + others, some)
 
+    def apart(self, costs):
+        """Return the number of shortest lists of components that do not meet."""
+        return lists_apart(costs)
+
+
+def _partings(things):
+    """Return how many partings of some things there are, from one group on."""
+    if things < len(NUMBERS_OF_PARTINGS):
+        return NUMBERS_OF_PARTINGS[things]
+    return [comb(things, groups) * comb(things, groups - 1) // things for groups in range(1, things + 1)]
+
 
 class LayoutWeights:
     """The numbers of layouts between, for each number of moves from `one`.
@@ -89,9 +128,8 @@ class LayoutWeights:
         """Return N(things): the numbers of partings, by how many groups there are above one."""
         if things not in self._partings:
             digits = 0
-            for groups in range(1, things + 1):
-                number = comb(things, groups) * comb(things, groups - 1) // things
-                digits += number << self._bits * (groups - 1)
+            for above, number in enumerate(_partings(things)):
+                digits += number << self._bits * above
             self._partings[things] = digits
         return self._partings[things]
 
@@ -109,14 +147,12 @@ class LayoutWeights:
         """Return 1: a layout does not tell in which sequence its moves were made."""
         return 1
 
-
-def _weight_apart(weights, costs, done):
-    """Return the weight of components that do not meet another one, behind so many moves of others."""
-    weight = 1
-    for cost in costs:
-        weight = weight * weights.alone(cost) * weights.mixed(done, cost)
-        done += cost
-    return weight
+    def apart(self, costs):
+        """Return the numbers for components that do not meet."""
+        digits = 1
+        for cost in costs:
+            digits = digits * self._parted(cost + 1)
+        return digits
 
 
 def _kinds(costs):
@@ -175,21 +211,32 @@ def _weight_of_pairings(weights, ones, others):
     for left, weight in _pairings_by_left(weights, meeting, ones, others).items():
         apart = _costs_of(kinds, left)
         done = sum(ones) + sum(others) - sum(apart)
-        total += weight * _weight_apart(weights, apart, done)
+        total += weight * weights.apart(apart) * weights.mixed(done, sum(apart))
     return total
 
 
-def weight_of_ways(weights, ones, others):
-    """Return the weight of all ways together, by the ascending lists of the costs of both sorts."""
-    if len(ones) == 0 or len(others) == 0:
-        return _weight_apart(weights, ones + others, 0)
-    key = (tuple(ones), tuple(others))
-    if key not in weights.together:
-        weights.together[key] = _weight_of_pairings(weights, ones, others)
-    return weights.together[key]
+def _weight_with_one(weights, alone, ones, others):
+    """Return the weight of all components, if there is one way of `one` or one way of `other`: so only two can meet."""
+    costs = alone + ones + others
+    moves = sum(costs)
+    weight = weights.apart(costs)
+    for one in ones:
+        for other in others:
+            rest = list(costs)
+            rest.remove(one)
+            rest.remove(other)
+            both = one + other
+            weight += weights.meeting(one, other) * weights.apart(rest) * weights.mixed(both, moves - both)
+    return weight
 
 
 def weight_of_all(weights, alone, ones, others):
     """Return the weight of all components, by the costs of ways of `one`, of ways of `other`, and of all others."""
-    ways = weight_of_ways(weights, ones, others)
-    return ways * _weight_apart(weights, alone, sum(ones) + sum(others))
+    if len(ones) == 0 or len(others) == 0:
+        return weights.apart(alone + ones + others)
+    if len(ones) == 1 or len(others) == 1:
+        return _weight_with_one(weights, alone, ones, others)
+    key = (tuple(sorted(ones)), tuple(sorted(others)))
+    if key not in weights.together:
+        weights.together[key] = _weight_of_pairings(weights, ones, others)
+    return weights.together[key] * weights.apart(alone) * weights.mixed(sum(ones) + sum(others), sum(alone))

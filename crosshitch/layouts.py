@@ -1,26 +1,23 @@
 """Layouts: their ends, and their rows and rings."""
 
-from crosshitch.basics import check_end, check_pieces, checked_partners, is_integer, opens_in, partners_or_wrong
-from crosshitch.errors import InvalidRings, InvalidRows
+from crosshitch.basics import check_end, check_pieces, checked_partners, count_pairings, is_integer, opens_in
+from crosshitch.errors import InvalidLayout, InvalidRings, InvalidRows
 
 
 def is_layout(pieces, value):
     """Return whether any value is a layout."""
     check_pieces(pieces)
-    if type(value) != list:
+    try:
+        checked_partners(pieces, value)
+    except InvalidLayout:
         return False
-    _, wrong = partners_or_wrong(pieces, value)
-    return wrong is None
+    return True
 
 
 def count_layouts(pieces):
     """Return the number of all layouts."""
     check_pieces(pieces)
-    fewer, count = 1, 1
-    # A further end is open, or it is coupled with one of those that were there ahead of it.
-    for ahead in range(1, 2 * pieces):
-        fewer, count = count, count + ahead * fewer
-    return count
+    return count_pairings(2 * pieces)
 
 
 def open_ends(pieces, layout):
@@ -44,7 +41,7 @@ def partners_of(pieces, layout):
     return partners[pieces + 1:] + partners[1:pieces + 1]
 
 
-def _readings(pieces, partners):
+def readings_in(pieces, partners):
     """Return the normal readings of all rows and of all rings, both in the sequence of their least pieces."""
     rows, rings = [], []
     seen = [False] * (pieces + 1)
@@ -74,7 +71,7 @@ def _readings(pieces, partners):
 def rows_of(pieces, layout):
     """Return the ascending list of the normal readings of all rows."""
     check_pieces(pieces)
-    rows, _ = _readings(pieces, checked_partners(pieces, layout))
+    rows, _ = readings_in(pieces, checked_partners(pieces, layout))
     return sorted(rows)
 
 
@@ -82,7 +79,7 @@ def rings_of(pieces, layout):
     """Return the ascending list of the normal readings of all rings."""
     check_pieces(pieces)
     # Each ring begins with its least piece, so they ascend already.
-    _, rings = _readings(pieces, checked_partners(pieces, layout))
+    _, rings = readings_in(pieces, checked_partners(pieces, layout))
     return rings
 
 
@@ -118,7 +115,7 @@ def _check_rings(pieces, rows, rings):
         raise InvalidRings(index)
 
 
-def _couplings_along(numbers):
+def couplings_along(numbers):
     """Return the couplings of each number with the one behind it."""
     pairs = zip(numbers, numbers[1:])
     return [(number, -behind) if number < -behind else (-behind, number) for number, behind in pairs]
@@ -132,7 +129,7 @@ def layout_of(pieces, rows, rings):
     layout = []
     for row in rows:
         if len(row) > 1:
-            layout.extend(_couplings_along(row))
+            layout.extend(couplings_along(row))
     for ring in rings:
-        layout.extend(_couplings_along(ring + ring[:1]))
+        layout.extend(couplings_along(ring + ring[:1]))
     return sorted(layout)

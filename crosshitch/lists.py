@@ -1,8 +1,8 @@
 """Shortest lists of moves: the good moves, how many lists there are, and their numbers."""
 
 from crosshitch.basics import check_number, check_pieces, checked_partners
-from crosshitch.components import components, distance, make_move
-from crosshitch.counting import ListWeights, weight_of_all
+from crosshitch.components import components, checked_costs, distance, make_move
+from crosshitch.counting import ListWeights, lists_apart, weight_of_all
 from crosshitch.errors import InvalidMoves, InvalidNumber
 from crosshitch.moves import is_move_by_partners
 from crosshitch.steps import good_steps, kind_of_part
@@ -16,40 +16,41 @@ def good_moves(pieces, one, other):
     return sorted([move for move, _, _ in good_steps(parts)])
 
 
-def _count_lists(weights, kinds):
-    """Return the number of shortest lists by the kinds of the components."""
-    ones = sorted([cost for word, cost in kinds if word == "one"])
-    others = sorted([cost for word, cost in kinds if word == "other"])
-    alone = [cost for word, cost in kinds if word in ("ring", "odd")]
-    return weight_of_all(weights, alone, ones, others)
-
-
-def _kinds_between(pieces, partners, goal):
-    """Return the kinds of all components of two tables of partners."""
-    return [kind_of_part(part) for part in components(pieces, partners, goal)]
+def _count_lists(alone, ones, others):
+    """Return the number of shortest lists by the costs of ways of `one`, of ways of `other`, and of all others."""
+    if ones and others:
+        return weight_of_all(ListWeights(), alone, ones, others)
+    return lists_apart(alone + ones + others)
 
 
 def count_shortest(pieces, one, other):
     """Return the number of the shortest lists."""
     check_pieces(pieces)
-    partners = checked_partners(pieces, one)
-    goal = checked_partners(pieces, other)
-    return _count_lists(ListWeights(), _kinds_between(pieces, partners, goal))
+    alone, ones, others = checked_costs(pieces, checked_partners(pieces, one), other)
+    return _count_lists(alone, ones, others)
 
 
 def count_through(pieces, one, other, third):
     """Return the number of the shortest lists that make a layout, or begin or end with it."""
     check_pieces(pieces)
     partners = checked_partners(pieces, one)
-    goal = checked_partners(pieces, other)
+    checked_partners(pieces, other)
     middle = checked_partners(pieces, third)
-    ahead = _kinds_between(pieces, partners, middle)
-    behind = _kinds_between(pieces, middle, goal)
-    fewest = sum([cost for _, cost in ahead + behind])
-    if fewest > distance(pieces, partners, goal):
+    ahead, behind = distance(len(one), partners, third), distance(len(third), middle, other)
+    if ahead + behind > distance(len(one), partners, other):
         return 0
-    weights = ListWeights()
-    return _count_lists(weights, ahead) * _count_lists(weights, behind)
+    alone, ones, others = checked_costs(pieces, partners, third)
+    ahead = _count_lists(alone, ones, others)
+    alone, ones, others = checked_costs(pieces, middle, other)
+    return ahead * _count_lists(alone, ones, others)
+
+
+def _count_by_kinds(weights, kinds):
+    """Return the number of shortest lists by the kinds of the components."""
+    ones = [cost for word, cost in kinds if word == "one"]
+    others = [cost for word, cost in kinds if word == "other"]
+    alone = [cost for word, cost in kinds if word in ("ring", "odd")]
+    return weight_of_all(weights, alone, ones, others)
 
 
 def _counted_steps(weights, parts):
@@ -62,7 +63,7 @@ def _counted_steps(weights, parts):
             left = list(kinds)
             for kind in gone:
                 left.remove(kind)
-            counts[gone, new] = _count_lists(weights, [*left, *new])
+            counts[gone, new] = _count_by_kinds(weights, [*left, *new])
         counted.append((move, counts[gone, new]))
     return counted
 
@@ -74,7 +75,8 @@ def nth_shortest(pieces, one, other, index):
     goal = checked_partners(pieces, other)
     check_number(index)
     weights = ListWeights()
-    if index >= _count_lists(weights, _kinds_between(pieces, partners, goal)):
+    alone, ones, others = checked_costs(pieces, list(partners), other)
+    if index >= _count_lists(alone, ones, others):
         raise InvalidNumber("there are not so many shortest lists")
     moves = []
     # There are good moves until the goal is reached.
@@ -101,7 +103,7 @@ def shortest_index(pieces, one, other, value):
     check_pieces(pieces)
     partners = checked_partners(pieces, one)
     goal = checked_partners(pieces, other)
-    if type(value) != list or len(value) != distance(pieces, partners, goal):
+    if type(value) != list or len(value) != distance(len(one), partners, other):
         raise InvalidMoves("not a shortest list of moves")
     weights = ListWeights()
     index = 0

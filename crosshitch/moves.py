@@ -168,13 +168,8 @@ def _kind_of_transfer(partners, cut, joined):
     return "turn" if _far_end(partners, left) == other else "exchange"
 
 
-def kind_of(pieces, layout, move):
-    """Return the word for what a move does to the rows and rings."""
-    partners = checked_move(pieces, layout, move)
-    cut, joined = move
-    for low, high in cut:
-        partners[low] = partners[high] = 0
-    # In what is left, each end that the move concerns begins a row: it depends on where this row ends what they become.
+def _kind_when_cut(partners, cut, joined):
+    """Return the word for a move whose couplings are cut already."""
     if len(cut) == 2:
         return _kind_of_swap(partners, cut, joined)
     if len(cut) == 0:
@@ -184,3 +179,21 @@ def kind_of(pieces, layout, move):
     if len(joined) == 0:
         return "open" if _far_end(partners, low) == high else "cut"
     return _kind_of_transfer(partners, cut[0], joined[0])
+
+
+def make_named_move(partners, move):
+    """Change a table of partners as a move does; return the word for what it does to the rows and rings."""
+    cut, joined = move
+    for low, high in cut:
+        partners[low] = partners[high] = 0
+    # In what is left, each end that the move concerns begins a row: it depends on where this row ends what they become.
+    kind = _kind_when_cut(partners, cut, joined)
+    for low, high in joined:
+        partners[low] = high
+        partners[high] = low
+    return kind
+
+
+def kind_of(pieces, layout, move):
+    """Return the word for what a move does to the rows and rings."""
+    return make_named_move(checked_move(pieces, layout, move), move)

@@ -16,7 +16,8 @@ def fewest_moves(pieces, one, other):
     """Return the number of the fewest moves."""
     check_pieces(pieces)
     partners = checked_partners(pieces, one)
-    return distance(pieces, partners, checked_partners(pieces, other))
+    checked_partners(pieces, other)
+    return distance(len(one), partners, other)
 
 
 def _move_that_joins(partners, coupling):
@@ -73,6 +74,6 @@ def is_shortest(pieces, one, other, value):
     check_pieces(pieces)
     partners = checked_partners(pieces, one)
     goal = checked_partners(pieces, other)
-    if type(value) != list or len(value) != distance(pieces, partners, goal):
+    if type(value) != list or len(value) != distance(len(one), partners, other):
         return False
     return _leads_by_partners(pieces, partners, goal, value)

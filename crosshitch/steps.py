@@ -95,3 +95,25 @@ def good_steps(parts):
             for met in others:
                 steps.extend(_steps_with_meeting(part, met))
     return steps
+
+
+def _least_move_alone(part):
+    """Return the least good move that changes a component alone, one in which there is something left to do."""
+    word, places = part[0], _places(part)
+    numbered = sorted([(coupling_of(*place), at) for at, place in enumerate(places) if place[0] is not None])
+    least, at = numbered[0]
+    if word == "one":
+        return ([least], [])
+    # An odd way begins with its open end: to change this one, only one coupling is cut.
+    more = 0 if word == "odd" else numbered[1][1]
+    (start, end), (near, far) = places[min(at, more)], places[max(at, more)]
+    return (_couplings((start, end), (near, far)), _couplings((start, far), (end, near)))
+
+
+def least_good_move(parts):
+    """Return the least good move from a layout with these components towards the other one, None if there is none."""
+    joins = [coupling_of(ends[0], ends[-1]) for word, ends in parts if word == "other"]
+    # Moves that cut nothing are the least ones; where there are none, no two ways can meet.
+    if joins:
+        return ([], [min(joins)])
+    return min([_least_move_alone(part) for part in parts if cost_of(part) > 0], default=None)

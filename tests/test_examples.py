@@ -85,6 +85,47 @@ POINT_21 = """
 [[(-2, -1)], 3, [(-2, 1)]]
 """
 
+POINT_22 = """
+>>> from crosshitch.sights import Sight
+>>> sight = Sight(2, [], [2])
+>>> [len(sight), sight.counts(pair), back in sight, pair in sight, sight.nth(pair, 1, 0)]
+[3, [1, 3], False, True, [(-2, -1)]]
+>>> [sight.fewest(pair), sight.most(pair)[0], sight.sure(pair, 0), sight.sure(pair, 1), (sight + Sight(2, pair, [])).known]
+[(0, [(-2, 1)]), 1, ([(-2, 1)], [-1, 2]), ([], [2]), [(-2, 1)]]
+"""
+
+POINT_23 = """
+>>> from crosshitch.overlay import shortest
+>>> from crosshitch.yards import GoalYard, Yard
+>>> yard = GoalYard(3, line, bent, spare=2)
+>>> [yard.left, yard.move(([], [(-1, 3)])), yard.left, yard.spare, yard.undo(), yard.spare, yard.next_good() == shortest(3, line, bent)[0]]
+[1, 'close', 2, 0, None, 2, True]
+>>> from crosshitch.errors import Farther
+>>> try:
+...     GoalYard(3, line, bent).move(([], [(-1, 3)]))
+... except Farther as error:
+...     error.moves
+2
+"""
+
+POINT_24 = """
+>>> from crosshitch.layouts import layout_of
+>>> from crosshitch.texts import read_layout, read_move, show_layout, show_move
+>>> [show_layout(4, bent), show_layout(5, layout_of(5, [[1, 3]], [[4, 5], [-2]])), read_layout(3, "(2 3 1)") == ring]
+['1 -2 3, 4', '1 3, (2), (4 5)', True]
+>>> [show_move(3, line, ([(-2, 1)], [(-1, 1)])), read_move(3, line, "join -1/3")]
+['cut -2/1 join -1/1', ([], [(-1, 3)])]
+"""
+
+POINT_25 = """
+>>> from crosshitch.console import Console
+>>> console = Console()
+>>> [console.execute(command) for command in ["pieces 3", "layout 1 2 3", "goal 1 -2 3", "left", "good", "lists", "between"]]
+['ok', 'ok', 'ok', '1', 'cut -3/2 -2/1 join -3/-2 1/2', '1', '1 1']
+>>> [console.execute(command) for command in ["move join -1/3", "show", "left", "undo", "show", "shells"]]
+['close', '(1 2 3)', '2', 'ok', '1 2 3', '1 13 45 17']
+"""
+
 
 class Examples(unittest.TestCase):
     def check(self, text):
@@ -115,6 +156,18 @@ class Examples(unittest.TestCase):
 
     def test_point_21(self):
         self.check(POINT_21)
+
+    def test_point_22(self):
+        self.check(POINT_22)
+
+    def test_point_23(self):
+        self.check(POINT_23)
+
+    def test_point_24(self):
+        self.check(POINT_24)
+
+    def test_point_25(self):
+        self.check(POINT_25)
 
     def test_readme(self):
         readme = pathlib.Path(__file__).parent.parent / "README.md"

@@ -37,7 +37,19 @@ INTERFACE = {
     "lists": "good_moves count_shortest count_through nth_shortest shortest_index",
     "between": "is_between count_between counts_between all_between first_behind last_ahead",
     "shells": "counts_by_moves mean_moves nth_at index_at",
+    "sights": "Sight",
+    "yards": "Yard GoalYard",
+    "texts": "show_layout show_move read_layout read_move",
+    "console": "Console",
 }
+# What each class of the interface has to define by itself.
+METHODS = {
+    "Sight": "__init__ pieces known opens __contains__ __len__ __eq__ __add__ counts fewest most nth sure",
+    "Yard": "__init__ pieces layout made __len__ move undo preview twin __eq__",
+    "GoalYard": "__init__ goal spare left move undo preview twin __eq__ next_good",
+    "Console": "__init__ execute",
+}
+PROPERTIES = {"Sight": "pieces known opens", "Yard": "pieces layout made", "GoalYard": "goal spare left", "Console": ""}
 
 
 class Form(unittest.TestCase):
@@ -94,6 +106,15 @@ class Form(unittest.TestCase):
             tree = ast.parse((FOLDER / f"{name}.py").read_text(encoding="ascii"))
             defined = [node.name for node in tree.body if isinstance(node, (ast.FunctionDef, ast.ClassDef))]
             self.assertEqual([told for told in names.split() if told not in defined], [], name)
+
+    def test_methods(self):
+        """Each method that the document lists for a class is defined in that class itself."""
+        classes = {node.name: node for _, tree in self.trees() for node in tree.body if isinstance(node, ast.ClassDef)}
+        for name, methods in METHODS.items():
+            defined = {node.name: node for node in classes[name].body if isinstance(node, ast.FunctionDef)}
+            self.assertEqual([method for method in methods.split() if method not in defined], [], name)
+            decorated = [method for method, node in defined.items() if node.decorator_list]
+            self.assertEqual(decorated, PROPERTIES[name].split())
 
     def test_no_name_of_an_import_or_a_builtin_is_assigned(self):
         for path, tree in self.trees():
