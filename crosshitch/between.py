@@ -2,7 +2,7 @@
 
 from crosshitch.basics import check_pieces, checked_partners
 from crosshitch.circles import all_partings, circle_of, couplings_of, regrouped
-from crosshitch.components import checked_costs, components, cost_of, distance
+from crosshitch.components import checked_costs, components, cost_of, distance, rings_and_ways
 from crosshitch.counting import LayoutWeights, layouts_apart, weight_of_all
 from crosshitch.errors import MixedWays, NotBetween, TooMany
 
@@ -110,12 +110,14 @@ def _checked_tables(pieces, one, other, third, fourth):
     """Return the tables of partners of two layouts, and of two that are between them; raise the errors for them."""
     check_pieces(pieces)
     tables = [checked_partners(pieces, layout) for layout in (one, other, third, fourth)]
-    alone, ones, others = checked_costs(pieces, list(tables[0]), other)
-    fewest = sum(alone) + sum(ones) + sum(others)
+    partners, goal = tables[:2]
+    rings, ways = rings_and_ways(partners, other)
+    fewest = len(one) - rings + ways
     for layout in (third, fourth):
-        if distance(len(one), tables[0], layout) + distance(len(other), tables[1], layout) > fewest:
+        if distance(len(one), partners, layout) + distance(len(other), goal, layout) > fewest:
             raise NotBetween("a layout is not between the two others")
-    if ones and others:
+    # There are as many ways of `one` more as it has couplings more.
+    if ways > 0 and ways + len(one) > len(other):
         raise MixedWays("there are ways of both layouts")
     return tables
 

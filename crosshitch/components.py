@@ -63,25 +63,34 @@ def cost_of(component):
     return len(ends) // 2 - 1 if word == "ring" else len(ends) // 2
 
 
-def distance(number, partners, couplings):
-    """Return the number of the fewest moves from one layout to another, told by its couplings.
+def rings_and_ways(partners, couplings):
+    """Return how many ring components there are, and how many ways of the second one of two layouts.
 
-    Of the first one the number of its couplings is passed, and its table of partners. The fewest moves are this number,
-    less 1 for each ring component, and 1 more for each way of the other layout.
+    The first one is told by its table of partners, the second one by its couplings.
     """
+    rings, ways = 0, 0
     # For each outer end of what the couplings lead along, the other outer end, or 0 if that one is open in the first
     # layout. What is written at the index 0, which is no end, is never read.
     across = list(partners)
     for low, high in couplings:
         here, there = across[low], across[high]
         if here == high:
-            number -= 1
+            rings += 1
         elif here == there:
-            number += 1
+            ways += 1
         else:
             across[here] = there
             across[there] = here
-    return number
+    return rings, ways
+
+
+def distance(number, partners, couplings):
+    """Return the number of the fewest moves from one layout to another, told by its couplings.
+
+    Of the first one the number of its couplings is passed, and its table of partners.
+    """
+    rings, ways = rings_and_ways(partners, couplings)
+    return number - rings + ways
 
 
 def _costs_left(across, passed):

@@ -84,9 +84,10 @@ def nth_with(strands, counts, unknown, index):
     while len(unknown) > MOST_FEW + 1:
         end = unknown[0] or unknown[1]
         unknown.remove(end)
-        changes = changes_of(strands.across, end, unknown)
-        numbers = counts.by_change(strands, changes)
-        for partner, change in zip(unknown, changes):
+        numbers = {}
+        for partner, change in zip(unknown, changes_of(strands.across, end, unknown)):
+            if change not in numbers:
+                numbers[change] = counts.left_by(strands, change)
             if index < numbers[change]:
                 break
             index -= numbers[change]
@@ -105,8 +106,8 @@ def index_with(strands, counts, unknown, partners):
         unknown.remove(end)
         partner = partners[end]
         changes = changes_of(strands.across, end, unknown[:unknown.index(partner)])
-        numbers = counts.by_change(strands, changes)
-        index += sum([numbers[change] for change in changes])
+        for change in sorted(set(changes)):
+            index += changes.count(change) * counts.left_by(strands, change)
         strands.tell(end, partner)
         if partner:
             unknown.remove(partner)

@@ -71,14 +71,16 @@ class Strands:
 
 
 class StrandCounts:
-    """The numbers of layouts by what their strands add to the score.
+    """The numbers of layouts by half of what their strands add to the score, rounded down.
 
-    They are the digits of an integer to the base 2 ** bits, from the score 0 on, enough for so many unknown ends.
+    They are the digits of an integer to the base 2 ** bits, from 0 on, enough for so many unknown ends. (An odd number
+    of laid strands adds odd numbers to the score, and an even number even ones.)
     """
 
     def __init__(self, ends):
         self._bits = count_pairings(ends).bit_length()
-        self._kept = {}
+        # These integers by the number of told strands, then by that of free ones, then by that of laid ones.
+        self._kept = []
 
     def with_score(self, numbers, score):
         """Return how many layouts there are for the numbers of free, laid and told strands, and one score."""
@@ -87,64 +89,68 @@ class StrandCounts:
             return number_of_few(free, laid, told, score)
         if score < 0:
             return 0
-        return self._digits(free, laid, told) >> self._bits * score & (1 << self._bits) - 1
+        if not self._has(free, laid, told):
+            for fewer in range(told + 1):
+                self._keep(free, laid, fewer)
+        return self._kept[told][free][laid] >> self._bits * (score // 2) & (1 << self._bits) - 1
 
-    def by_change(self, strands, changes):
-        """Return a dict: how many layouts each one of some changes leaves."""
-        numbers = {}
-        for change in changes:
-            if change not in numbers:
-                left, score = strands.left_by(change)
-                numbers[change] = self.with_score(left, score)
-        return numbers
+    def left_by(self, strands, change):
+        """Return how many layouts a change leaves."""
+        numbers, score = strands.left_by(change)
+        return self.with_score(numbers, score)
 
-    def _digits(self, free, laid, told):
-        """Return the numbers for so many strands with two free ends, so many laid ones and so many told ones."""
-        key = (free, laid, told)
-        if key not in self._kept:
-            if 2 * free + laid + told <= MOST_FEW:
-                self._kept[key] = self._of_few(free, laid, told)
-            elif laid > 0:
-                self._kept[key] = self._by_laid(free, laid, told)
-            elif told > 0:
-                self._kept[key] = self._by_told(free, told)
-            else:
-                self._kept[key] = self._by_free(free)
-        return self._kept[key]
+    def _has(self, free, laid, told):
+        """Return whether the numbers for so many strands are kept."""
+        return told < len(self._kept) and free < len(self._kept[told]) and laid < len(self._kept[told][free])
 
-    def _of_few(self, free, laid, told):
-        """Return the numbers for few strands."""
-        digits = 0
-        # An odd number of laid strands makes odd scores.
-        for score in range(laid & 1, 2 * free + laid + 1, 2):
-            digits += number_of_few(free, laid, told, score) << self._bits * score
-        return digits
+    def _keep(self, free, laid, told):
+        """Keep the numbers for so many told strands, and up to so many free and laid ones."""
+        if told == len(self._kept):
+            self._kept.append([])
+        rows = self._kept[told]
+        for number in range(free + 1):
+            if number == len(rows):
+                rows.append([self._without_laid(number, told)])
+            row = rows[number]
+            for many in range(len(row), laid + 1):
+                # What becomes of the free end of a laid strand: it is open, or joined to a told one, and each time an
+                # odd way is complete; or it is joined to another laid strand, or to an end of a free one.
+                total = row[-1]
+                if told > 0:
+                    total += told * self._kept[told - 1][number][many - 1]
+                if many & 1 == 0:
+                    total <<= self._bits
+                if many > 1:
+                    total += (many - 1) * row[-2]
+                if number > 0:
+                    total += 2 * number * rows[number - 1][many]
+                row.append(total)
 
-    def _by_laid(self, free, laid, told):
-        """Return the numbers by what becomes of the free end of one of the laid strands."""
-        # It is open, or joined to a told strand: each time an odd way is complete.
-        total = self._digits(free, laid - 1, told) << self._bits
-        if told > 0:
-            total += told * self._digits(free, laid - 1, told - 1) << self._bits
-        if laid > 1:
-            total += (laid - 1) * self._digits(free, laid - 2, told)
-        if free > 0:
-            total += 2 * free * self._digits(free - 1, laid, told)
-        return total
-
-    def _by_told(self, free, told):
-        """Return the numbers by what becomes of the free end of one of the told strands, without laid ones."""
-        total = self._digits(free, 0, told - 1)
+    def _without_laid(self, free, told):
+        """Return the numbers for so many free and told strands, without laid ones."""
+        if told == 0:
+            return self._with_free_alone(free)
+        # The free end of a told strand is open, or it is joined to another told strand, or to an end of a free one.
+        total = self._kept[told - 1][free][0]
         if told > 1:
-            total += (told - 1) * self._digits(free, 0, told - 2)
+            total += (told - 1) * self._kept[told - 2][free][0]
         if free > 0:
-            total += 2 * free * self._digits(free - 1, 0, told)
+            total += 2 * free * self._kept[told][free - 1][0]
         return total
 
-    def _by_free(self, free):
-        """Return the numbers by what becomes of a free end, where each strand has two of them."""
-        # It is open, or joined to the other end of its strand, or to one of another strand.
-        total = self._digits(free - 1, 0, 1)
-        total += self._digits(free - 1, 0, 0) << 2 * self._bits
-        total += 2 * (free - 1) * self._digits(free - 1, 0, 0)
+    def _with_free_alone(self, free):
+        """Return the numbers for so many free strands."""
+        if free == 0:
+            return 1
+        ahead = self._kept[0][free - 1][0]
+        # One end of a strand is joined, or it is open, and the other end, too; or the other one is joined to another
+        # strand. Then one strand less is left, and one of its ends is open, that is: not joined.
+        total = self._joined(free) + ahead
+        if free > 1:
+            total += 2 * (free - 1) * (ahead - self._joined(free - 1))
         return total
+
+    def _joined(self, free):
+        """Return the numbers for so many free strands if one end is joined to its other end or to another strand."""
+        fewer = self._kept[0][free - 1][0]
+        return (fewer << self._bits) + 2 * (free - 1) * fewer
