@@ -8,6 +8,7 @@ would take longer than all the rest.
 """
 
 from crosshitch.few import MOST_FEW, NUMBERS
+from crosshitch.strands import CLOSED, JOINED, LAID_AND_TOLD, OPEN_FREE, OPEN_LAID, OPEN_TOLD, TWO_LAID, TWO_TOLD
 from crosshitch.strands import changes_of
 
 
@@ -18,15 +19,15 @@ def nth_of_few(across, key, unknown, index):
         end = unknown[0] or unknown[1]
         unknown.remove(end)
         here = across[end]
-        alike, opened = (20, 10) if here is None else (200, 101)
+        alike, opened = (TWO_TOLD, OPEN_TOLD) if here is None else (TWO_LAID, OPEN_LAID)
         for partner in unknown:
             there = across[partner]
             if not partner:
-                change = 990 if here else opened
+                change = OPEN_FREE if here else opened
             elif here or there:
-                change = 1002 if partner == here else 1000
+                change = CLOSED if partner == here else JOINED
             else:
-                change = alike if here == there else 111
+                change = alike if here == there else LAID_AND_TOLD
             number = NUMBERS.get(key - change, 0)
             if index < number:
                 break
@@ -53,15 +54,15 @@ def index_of_few(across, key, unknown, partners):
         end = unknown[0] or unknown[1]
         unknown.remove(end)
         here, found = across[end], partners[end]
-        alike, opened = (20, 10) if here is None else (200, 101)
+        alike, opened = (TWO_TOLD, OPEN_TOLD) if here is None else (TWO_LAID, OPEN_LAID)
         for partner in unknown:
             there = across[partner]
             if not partner:
-                change = 990 if here else opened
+                change = OPEN_FREE if here else opened
             elif here or there:
-                change = 1002 if partner == here else 1000
+                change = CLOSED if partner == here else JOINED
             else:
-                change = alike if here == there else 111
+                change = alike if here == there else LAID_AND_TOLD
             number = NUMBERS.get(key - change, 0)
             if partner == found:
                 break

@@ -3,6 +3,7 @@
 from crosshitch.basics import check_number, check_pieces, checked_partners, coupling_of, is_end, opens_in
 from crosshitch.errors import Clash, InvalidLayout, InvalidNumber, InvalidOpens, InvalidSight, NotFitting
 from crosshitch.numbering import nth_with
+from crosshitch.strands import CLOSED, LAID_AND_TOLD, OPEN_FREE, OPEN_LAID, OPEN_TOLD, TWO_LAID, TWO_TOLD
 from crosshitch.strands import StrandCounts, Strands
 from crosshitch.tallies import tally
 
@@ -29,17 +30,17 @@ def _what_may_be_sure(unknown, across):
     found = []
     if free:
         closed = [(end, across[end]) for end in free if end < across[end]]
-        found.extend([(1002, closed, []), (990, [], free)])
+        found.extend([(CLOSED, closed, []), (OPEN_FREE, [], free)])
     if laid:
-        found.append((101, [], laid))
+        found.append((OPEN_LAID, [], laid))
     if told:
-        found.append((10, [], told))
+        found.append((OPEN_TOLD, [], told))
     if len(laid) == 2:
-        found.append((200, [(laid[0], laid[1])], []))
+        found.append((TWO_LAID, [(laid[0], laid[1])], []))
     if len(told) == 2:
-        found.append((20, [(told[0], told[1])], []))
+        found.append((TWO_TOLD, [(told[0], told[1])], []))
     if len(laid) == 1 and len(told) == 1:
-        found.append((111, [coupling_of(laid[0], told[0])], []))
+        found.append((LAID_AND_TOLD, [coupling_of(laid[0], told[0])], []))
     return found
 
 

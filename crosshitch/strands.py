@@ -14,25 +14,46 @@ None if it is told. So if nothing is known of the other layout, it is the table 
 from crosshitch.basics import count_pairings, couplings_in
 from crosshitch.few import MOST_FEW, key_of_few, number_of_few
 
-# The changes that are told by `changes_of`, and what each of them takes from the numbers of free, laid and told strands
-# and from what they add to the score.
+# What can become of a free end, each told by what it takes from a key (see few). A free strand is joined to another one
+# of any sort, or to its own other end; or strands without two free ends are joined; or the end of a strand is open.
+JOINED = 1000
+CLOSED = 1002
+TWO_LAID = 200
+TWO_TOLD = 20
+LAID_AND_TOLD = 111
+OPEN_FREE = 990
+OPEN_LAID = 101
+OPEN_TOLD = 10
+
+# What each of these, in the same sequence, takes from the numbers of free, laid and told strands, and from what they
+# add to the score.
 TAKEN = {
-    1000: (1, 0, 0, 0), 1002: (1, 0, 0, 2), 990: (1, 0, -1, 0), 200: (0, 2, 0, 0), 111: (0, 1, 1, 1),
-    101: (0, 1, 0, 1), 20: (0, 0, 2, 0), 10: (0, 0, 1, 0),
+    1000: (1, 0, 0, 0),
+    1002: (1, 0, 0, 2),
+    200: (0, 2, 0, 0),
+    20: (0, 0, 2, 0),
+    111: (0, 1, 1, 1),
+    990: (1, 0, -1, 0),
+    101: (0, 1, 0, 1),
+    10: (0, 0, 1, 0),
 }
 
 
 def changes_of(across, end, partners):
-    """Return what a free end takes from a key (see few) with each one of some partners, 0 for an open end."""
+    """Return what becomes of a free end with each one of some partners, 0 for an open end."""
     here = across[end]
     if here:
-        # It is joined to its own other end, or to any other strand.
-        return [1002 if partner == here else 1000 if partner else 990 for partner in partners]
-    alike, opened = (20, 10) if here is None else (200, 101)
-    return [
-        opened if not partner else 1000 if across[partner] else alike if across[partner] == here else 111
-        for partner in partners
-    ]
+        return [CLOSED if partner == here else JOINED if partner else OPEN_FREE for partner in partners]
+    alike, opened = (TWO_TOLD, OPEN_TOLD) if here is None else (TWO_LAID, OPEN_LAID)
+    changes = []
+    for partner in partners:
+        if not partner:
+            changes.append(opened)
+        elif across[partner]:
+            changes.append(JOINED)
+        else:
+            changes.append(alike if across[partner] == here else LAID_AND_TOLD)
+    return changes
 
 
 def tell_partner(across, end, partner):

@@ -18,29 +18,29 @@ def _rings_of_ways(free, ways, bits):
     return digits
 
 
-def _told_ways(single, told):
-    """Return in how many ways told strands are joined, for each number of joints from 0 on.
+def _told_pairs(told, crossed):
+    """Return in how many ways the free ends of told strands are joined, by how many pairs there are of two told ones.
 
-    Each joint is one of two told strands, or one of a told strand and of one of so many single laid ones.
+    So many of them are crossed: each is joined to a laid strand, and it is not counted here to which one.
     """
-    numbers = [0] * (told + 1)
-    for crossed in range(min(single, told) + 1):
-        left = told - crossed
-        for paired in range(left // 2 + 1):
-            number = factorial(told) // (factorial(paired) * factorial(left - 2 * paired) << paired)
-            numbers[crossed + paired] += comb(single, crossed) * number
-    return numbers
+    left = told - crossed
+    return [
+        factorial(told) // (factorial(pairs) * factorial(left - 2 * pairs) << pairs) for pairs in range(left // 2 + 1)
+    ]
 
 
 def _digits(free, laid, told, bits):
     """Return the numbers of layouts by half of what strands add to the score, rounded down, as such an integer."""
-    # The numbers of ways that laid and told strands make, and among them of odd ways, by how many joints there are.
+    told_pairs = [_told_pairs(told, crossed) for crossed in range(min(laid, told) + 1)]
+    # By how many ends are joined in twos: the numbers of ways that laid and told strands make, by those of odd ones.
     joined = [0] * (laid // 2 + told + 1)
     for pairs in range(laid // 2 + 1):
         single = laid - 2 * pairs
         number = factorial(laid) // (factorial(single) * factorial(pairs) << pairs)
-        for joints, more in enumerate(_told_ways(single, told)):
-            joined[pairs + joints] += number * more << bits * (single // 2)
+        for crossed in range(min(single, told) + 1):
+            ways = number * comb(single, crossed)
+            for more, many in enumerate(told_pairs[crossed]):
+                joined[pairs + crossed + more] += ways * many << bits * (single // 2)
     digits = 0
     for joints, number in enumerate(joined):
         if number > 0:

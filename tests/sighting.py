@@ -49,7 +49,7 @@ def _rings_by_formula(x, ways):
 
 
 def numbers_by_formula(x, y, z):
-    """By what they add to the score: the numbers of layouts for strands of the three sorts, as point [14] gives them."""
+    """By what they add to the score: the numbers of layouts for strands of three sorts, as point [14] gives them."""
     rings = {}
     counts = {}
     for p in range(min(y, z) + 1):

@@ -71,7 +71,8 @@ class Commands(ErrorChecks, unittest.TestCase):
                     layouts.pop()
                 else:
                     move = rnd.choice(moves_of(pieces, now))
-                    self.assertEqual(console.execute(f"move {show_move(pieces, now, move)}"), kind_of(pieces, now, move))
+                    text = show_move(pieces, now, move)
+                    self.assertEqual(console.execute(f"move {text}"), kind_of(pieces, now, move))
                     layouts.append(moved(pieces, now, move))
                 self.check_all(console, pieces, layouts[-1], goal)
 

@@ -22,10 +22,10 @@ WRONG_MOVES = [
 # With known couplings [(-2, 1)] of four pieces.
 WRONG_OPENS = [
     ([0], 0), ([5], 0), ([-5], 0), ([1], 0), ([-2], 0), ([-4, 1], 1), ([-4, -2, 3], 1), ([3, 3], 1), ([3, -4], 1),
-    ([-4, -3, 4, 3], 3), ([True], 0), ([-4, False], 1), ([None], 0), (["3"], 0), ([(3,)], 0), ([[3]], 0), ([10 ** 199], 0),
-    ([-10 ** 199, 3], 0), ([-4, 3, 10 ** 30], 2), ([3] * 400, 1), ([3, None, None], 1), ((), None), ((3,), None),
-    ("", None), ("3", None), ({}, None), ({3}, None), ({3: 3}, None), (None, None), (3, None), (range(3, 5), None),
-    (iter([3]), None), (True, None), (b"", None),
+    ([-4, -3, 4, 3], 3), ([True], 0), ([-4, False], 1), ([None], 0), (["3"], 0), ([(3,)], 0), ([[3]], 0),
+    ([10 ** 199], 0), ([-10 ** 199, 3], 0), ([-4, 3, 10 ** 30], 2), ([3] * 400, 1), ([3, None, None], 1), ((), None),
+    ((3,), None), ("", None), ("3", None), ({}, None), ({3}, None), ({3: 3}, None), (None, None), (3, None),
+    (range(3, 5), None), (iter([3]), None), (True, None), (b"", None),
 ]
 
 
@@ -115,7 +115,8 @@ class Opens(ErrorChecks, unittest.TestCase):
             for opens in [[one, two, three][:size] for one in items for two in items for three in items
                           for size in (0, 1, 2, 3)]:
                 wrong = (index for index, end in enumerate(opens)
-                         if type(end) != int or end not in ends or end in coupled or end <= max(opens[:index], default=-3))
+                         if type(end) != int or end not in ends or end in coupled
+                         or end <= max(opens[:index], default=-3))
                 index = next(wrong, None)
                 if index is None:
                     self.assertEqual(Sight(2, known, opens).opens, opens)

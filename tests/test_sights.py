@@ -95,8 +95,8 @@ class FewPieces(ErrorChecks, unittest.TestCase):
                 self.check_sight(pieces, known, opens, range(len(all_layouts(pieces))))
 
     def test_three_pieces(self):
-        for at, (known, opens) in enumerate(all_sights(3)):
-            self.check_sight(3, known, opens, range(at % 5, 76, 5))
+        for known, opens in all_sights(3):
+            self.check_sight(3, known, opens, range(76))
 
     def test_four_pieces(self):
         rnd = random.Random(31)

@@ -180,7 +180,8 @@ class Twins(ErrorChecks, unittest.TestCase):
     def test_equality(self):
         yards = [
             Yard(3, LINE), Yard(3, BENT), Yard(4, LINE), GoalYard(3, LINE, BENT), GoalYard(3, LINE, RING),
-            GoalYard(3, LINE, BENT, spare=1), GoalYard(3, BENT, BENT), GoalYard(4, LINE, BENT), Yard(1, []), Yard(2, []),
+            GoalYard(3, LINE, BENT, spare=1), GoalYard(3, BENT, BENT), GoalYard(4, LINE, BENT), Yard(1, []),
+            Yard(2, []),
         ]
         for one, other in itertools.product(range(len(yards)), repeat=2):
             self.assertIs(yards[one] == yards[other], one == other)
