@@ -1,10 +1,9 @@
 """Sights: what is known of a layout, and the layouts that fit, by their distance from another one."""
 
-from crosshitch.basics import check_number, check_pieces, checked_partners, coupling_of, is_end, opens_in
+from crosshitch.basics import check_number, check_pieces, checked_partners, is_end, opens_in
 from crosshitch.errors import Clash, InvalidLayout, InvalidNumber, InvalidOpens, InvalidSight, NotFitting
 from crosshitch.numbering import nth_with
-from crosshitch.strands import CLOSED, LAID_AND_TOLD, OPEN_FREE, OPEN_LAID, OPEN_TOLD, TWO_LAID, TWO_TOLD
-from crosshitch.strands import StrandCounts, Strands
+from crosshitch.strands import CLOSED, OPEN_FREE, OPEN_LAID, OPEN_TOLD, TWO_LAID, StrandCounts, Strands
 from crosshitch.tallies import tally
 
 
@@ -23,7 +22,8 @@ def _what_may_be_sure(unknown, across):
     """Return what can be in common: tuples of a change (see strands), and the couplings or the open ends that it makes.
 
     Strands of one sort are as good as one another, and so are the ends of a free one. So what can be in common is what
-    becomes of all of them in the same way.
+    becomes of all of them in the same way. A told strand is never joined in all layouts: it might as well be open, and
+    what it is joined to, too, and this would not change the score.
     """
     free, laid = [end for end in unknown if across[end]], [end for end in unknown if across[end] == 0]
     told = [end for end in unknown if across[end] is None]
@@ -37,10 +37,6 @@ def _what_may_be_sure(unknown, across):
         found.append((OPEN_TOLD, [], told))
     if len(laid) == 2:
         found.append((TWO_LAID, [(laid[0], laid[1])], []))
-    if len(told) == 2:
-        found.append((TWO_TOLD, [(told[0], told[1])], []))
-    if len(laid) == 1 and len(told) == 1:
-        found.append((LAID_AND_TOLD, [coupling_of(laid[0], told[0])], []))
     return found
 
 
