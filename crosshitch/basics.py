@@ -72,14 +72,12 @@ def check_pieces(pieces):
         raise InvalidPieces(f"the number of pieces is an integer from 1 to {MOST_PIECES}")
 
 
-def checked_partners(pieces, layout):
-    """Return the table of partners; raise InvalidLayout unless the value is a layout."""
-    if type(layout) is not list:
-        raise InvalidLayout(None)
+def partners_or_wrong(pieces, items):
+    """Return the table of partners for a list that is a layout, else the index of its first wrong item."""
     partners = [0] * (2 * pieces + 1)
     partners[0] = 1
     ahead = -pieces - 1
-    for item in layout:
+    for item in items:
         if type(item) is tuple and len(item) == 2:
             low, high = item
             # The plain question comes first: asking `are_integers` for each item would take longer than all the rest.
@@ -90,7 +88,17 @@ def checked_partners(pieces, layout):
                     partners[high] = ahead = low
                     continue
         # All items ahead of it are couplings.
-        raise InvalidLayout(couplings_in(partners))
+        return couplings_in(partners)
+    return partners
+
+
+def checked_partners(pieces, layout):
+    """Return the table of partners; raise InvalidLayout unless the value is a layout."""
+    if type(layout) is not list:
+        raise InvalidLayout(None)
+    partners = partners_or_wrong(pieces, layout)
+    if type(partners) is int:
+        raise InvalidLayout(partners)
     return partners
 
 

@@ -93,16 +93,16 @@ def distance(number, partners, couplings):
     return number - rings + ways
 
 
-def _costs_left(across, passed):
-    """Return the costs of odd ways, and those of ways of the first layout, from what `checked_costs` leaves."""
-    odds, ones = [], []
+def _ways_left(across, passed, alone):
+    """Return the costs of the ways of the first layout that `checked_costs` leaves; add those of odd ways to a list."""
+    ones = []
     for there, cost in zip(across, passed):
         if there:
             ones.append(cost + 1)
         elif cost and there == 0:
-            odds.append(cost)
+            alone.append(cost)
     # Each way of the first layout is told by both of its outer ends.
-    return odds, sorted(ones)[::2] if ones else ones
+    return sorted(ones)[::2] if ones else ones
 
 
 def checked_costs(pieces, across, layout):
@@ -113,38 +113,38 @@ def checked_costs(pieces, across, layout):
     """
     if type(layout) is not list:
         raise InvalidLayout(None)
-    rings, others = [], []
+    alone, others = [], []
     # What the couplings lead along is told by its outer ends: `across` keeps the other outer end, or 0 if that one is
     # open in the first layout, and `passed` the number of couplings. None tells that an end is coupled already.
     passed = [0] * len(across)
     across[0] = None
     ahead = -pieces - 1
-    # They are checked here as `checked_partners` does it: to call that one, too, would take longer.
     for item in layout:
+        here = there = None
+        # They are checked as `partners_or_wrong` does it: to ask that one, too, would take longer.
         if type(item) is tuple and len(item) == 2:
             low, high = item
-            if type(low) is int and type(high) is int or are_integers(low, high):
-                if ahead < low < high <= pieces and across[low] is not None and across[high] is not None:
-                    here, there = across[low], across[high]
-                    across[low] = across[high] = None
-                    ahead = low
-                    cost = passed[low] + passed[high] + 1
-                    if here == there:
-                        others.append(cost)
-                    elif here != high:
-                        if here:
-                            across[here] = there
-                            passed[here] = cost
-                        if there:
-                            across[there] = here
-                            passed[there] = cost
-                    elif cost > 1:
-                        # Both ends of the ring component told all of its couplings.
-                        rings.append(cost // 2)
-                    continue
-        raise InvalidLayout(across.count(None) // 2)
-    odds, ones = _costs_left(across, passed)
-    return rings + odds, ones, others
+            if (type(low) is int and type(high) is int or are_integers(low, high)) and ahead < low < high <= pieces:
+                here, there = across[low], across[high]
+        if here is None or there is None:
+            raise InvalidLayout(across.count(None) // 2)
+        across[low] = across[high] = None
+        ahead = low
+        cost = passed[low] + passed[high] + 1
+        if here == there:
+            others.append(cost)
+        elif here != high:
+            if here:
+                across[here] = there
+                passed[here] = cost
+            if there:
+                across[there] = here
+                passed[there] = cost
+        elif cost > 1:
+            # Both ends of the ring component told all of its couplings.
+            alone.append(cost // 2)
+    ones = _ways_left(across, passed, alone)
+    return alone, ones, others
 
 
 def make_move(partners, move):

@@ -1,17 +1,14 @@
 """Layouts: their ends, and their rows and rings."""
 
 from crosshitch.basics import check_end, check_pieces, checked_partners, count_pairings, is_integer, opens_in
-from crosshitch.errors import InvalidLayout, InvalidRings, InvalidRows
+from crosshitch.basics import partners_or_wrong
+from crosshitch.errors import InvalidRings, InvalidRows
 
 
 def is_layout(pieces, value):
     """Return whether any value is a layout."""
     check_pieces(pieces)
-    try:
-        checked_partners(pieces, value)
-    except InvalidLayout:
-        return False
-    return True
+    return type(value) is list and type(partners_or_wrong(pieces, value)) is list
 
 
 def count_layouts(pieces):
