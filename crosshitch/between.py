@@ -1,7 +1,7 @@
 """Layouts between two layouts: counted and listed, the first one behind two of them and the last one ahead of both."""
 
 from crosshitch.basics import check_pieces, checked_partners
-from crosshitch.circles import all_partings, circle_of, couplings_of, regrouped
+from crosshitch.circles import all_partings, circle_of, couplings_of, first_in_group, regrouped
 from crosshitch.components import checked_costs, components, cost_of, distance, rings_and_ways
 from crosshitch.counting import LayoutWeights, layouts_apart, weight_of_all
 from crosshitch.errors import MixedWays, NotBetween, TooMany
@@ -62,7 +62,7 @@ def _choices_met(part, met):
     # the outer ends of the way of `one` are in one group: it is not cut then, and the other way changes by itself.
     partings = [
         parting for parting in all_partings(len(backs) + len(more_backs))
-        if parting[last] > 0 and min(parting[last + 1:]) <= last
+        if first_in_group(parting, last) > 0 and max(parting[:last + 1]) > last
     ]
     circles = [
         (backs + more_backs, fronts + more_fronts), (backs + more_fronts[::-1], fronts + more_backs[::-1]),

@@ -3,14 +3,18 @@
 A thing is a coupling of `other`, or an outer end that is open in `other`, or the gap between the outer ends of a way of
 `other`; it has a back and a front, in the sequence in which couplings of the two layouts lead on. A circle is a tuple
 of two lists: the backs of its things and their fronts, with 0 for an end that is not there. A parting is a tuple that
-gives each thing the number of the first thing in its group.
+gives each thing the number of the following one in its group; the last one has that of the first one.
 """
 
 PARTINGS_OF_FEW = (
     ((),),
     ((0,),),
-    ((0, 1), (0, 0)),
-    ((0, 1, 2), (0, 1, 0), (0, 1, 1), (0, 0, 2), (0, 0, 0)),
+    ((0, 1), (1, 0)),
+    ((0, 1, 2), (1, 0, 2), (2, 1, 0), (0, 2, 1), (1, 2, 0)),
+    (
+        (0, 1, 2, 3), (3, 1, 2, 0), (0, 3, 2, 1), (0, 1, 3, 2), (2, 1, 0, 3), (2, 1, 3, 0), (0, 2, 1, 3), (3, 2, 1, 0),
+        (0, 2, 3, 1), (1, 0, 2, 3), (1, 3, 2, 0), (1, 0, 3, 2), (1, 2, 0, 3), (1, 2, 3, 0),
+    ),
 )
 
 
@@ -30,33 +34,37 @@ def circle_of(part):
 def couplings_of(circle, parting):
     """Return the couplings of the layout that a parting tells."""
     backs, fronts = circle
-    # The front of the last thing of each group so far, at the number of its first thing.
-    last = list(fronts)
-    pairs = []
-    for number, group in enumerate(parting):
-        if group < number:
-            pairs.append((last[group], backs[number]))
-            last[group] = fronts[number]
-            last[number] = 0
-    # The last thing of each group leads back to the first one.
-    pairs = pairs + list(zip(last, backs))
-    return [(front, back) if front < back else (back, front) for front, back in pairs if front and back]
+    couplings = []
+    for front, following in zip(fronts, parting):
+        back = backs[following]
+        if front and back:
+            couplings.append((front, back) if front < back else (back, front))
+    return couplings
 
 
 def all_partings(number):
-    """Return all partings of so many things."""
+    """Return the tuple of all partings of so many things."""
     if number < len(PARTINGS_OF_FEW):
-        return list(PARTINGS_OF_FEW[number])
-    # Each unfinished parting has the groups that may go on: each one lies within those that stand ahead of it here.
+        return PARTINGS_OF_FEW[number]
+    # Each unfinished parting has the first and the last thing of each group that may go on: such a group lies within
+    # those that stand ahead of it here.
     unfinished = [((), [])]
     for thing in range(number):
         longer = []
         for parting, groups in unfinished:
-            longer.append(((*parting, thing), [*groups, thing]))
-            for at, group in enumerate(groups):
-                longer.append(((*parting, group), groups[:at + 1]))
+            longer.append(((*parting, thing), [*groups, (thing, thing)]))
+            for at, (first, last) in enumerate(groups):
+                joined = (*parting[:last], thing, *parting[last + 1:], first)
+                longer.append((joined, [*groups[:at], (first, thing)]))
         unfinished = longer
-    return [parting for parting, _ in unfinished]
+    return tuple([parting for parting, _ in unfinished])
+
+
+def first_in_group(parting, thing):
+    """Return the first thing in the group of a thing."""
+    while parting[thing] > thing:
+        thing = parting[thing]
+    return parting[thing]
 
 
 def regrouped(part, labels):
