@@ -15,8 +15,11 @@ def is_between(pieces, one, other, third):
     partners = checked_partners(pieces, one)
     goal = checked_partners(pieces, other)
     checked_partners(pieces, third)
-    ahead, behind = distance(len(one), partners, third), distance(len(other), goal, third)
-    return ahead + behind == distance(len(one), partners, other)
+    rings_ahead, ways_ahead = rings_and_ways(partners, third)
+    rings_behind, ways_behind = rings_and_ways(goal, third)
+    rings, ways = rings_and_ways(partners, other)
+    # These are the distances (see components) without the couplings of `one`, which count on both sides.
+    return ways_ahead - rings_ahead + len(other) + ways_behind - rings_behind == ways - rings
 
 
 def _count_layouts(alone, ones, others):
